@@ -1,0 +1,1 @@
+"""Hardbits: truths that tests cannot follow, and bits made from them."""

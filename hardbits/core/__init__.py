@@ -1,0 +1,1 @@
+"""Cores of truths, and mixes of tests that bar them."""

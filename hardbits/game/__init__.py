@@ -1,0 +1,1 @@
+"""Games of rows and columns, and the linear programs behind them."""

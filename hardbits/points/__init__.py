@@ -1,0 +1,1 @@
+"""Truths, tests and families on points."""

@@ -1,0 +1,1 @@
+"""Words of bits: draws of them, designs, and the bits of a truth."""

@@ -1,0 +1,209 @@
+"""Where the names of the interface stand, and the form of the package's files."""
+
+import ast
+import builtins
+import os
+import subprocess
+import sys
+import unittest
+
+ROOT = os.path.dirname(os.path.dirname(os.path.abspath(__file__)))
+PACKAGE = os.path.join(ROOT, "hardbits")
+
+INTERFACE = {
+    "hardbits.errors": """HardError InvalidFraction InvalidRow InvalidTruth InvalidFamily InvalidMeasure InvalidMix
+        InvalidDraw InvalidWord InvalidDesign InvalidAdvice InvalidMaps InvalidClaim InvalidOperation InvalidNumber
+        UnknownName TooMany Refused ParseError""",
+    "hardbits.base.fractions": """is_fraction(value) fraction(top,bottom) added(one,other) less(one,other)
+        times(one,other) divided(one,other) power(one,k) compared(one,other) floor_of(one) ceiling_of(one)
+        is_row(value) row_of(numbers) entries(row) lowest(row) row_sum(row) row_dot(one,other) row_added(one,other)
+        scaled(row,number) least_sum(row,s) greatest_sum(row,s) least_weights(row,s) is_least_weights(row,s,value)
+        level_shows(row,s,z) level_answer(row,s,v) is_level_answer(row,s,v,value)""",
+    "hardbits.points.truths": """is_truth(N,value) is_family(N,value) truth_of(bits) table_bits(f)
+        agreement(one,other) apart_number(one,other) opposite(f) closed_family(family) does_close(family)
+        best_of(f,family) letter_family(n,r) linear_family(n) both_family(n) half_of(f,letter,bit) hanging(f)
+        letters_answer(f,r) is_letters_answer(f,r,value)""",
+    "hardbits.game.games": """row_pay(table,x) column_pay(table,y) worth(table) worth_answer(table)
+        is_worth_answer(table,value) bound_answer(table,v) is_bound_answer(table,v,value) small_answer(table)
+        is_small_answer(table,value)""",
+    "hardbits.core.cores": """share_of(w) test_sums(f,family,w) margins(f,family,y) core_answer(f,family,d,e)
+        is_core_answer(f,family,d,e,value) least_edge(f,family,d) edge_answer(f,family,d)
+        is_edge_answer(f,family,d,value) share_answer(f,family,e) is_share_answer(f,family,e,value)""",
+    "hardbits.words.draws": """words(m) word_number(m,word) draw_of(m,counts) even_draw(m) excess(m,draw,test)
+        hybrid(m,draw,number) steps(m,draw,test) advantage(m,draw,i,bits) best_next(m,draw) best_bits(m,draw,i)
+        is_best_bits(m,draw,i,value) made_bits(m,test,i,last,r) made_answer(m,draw,test)
+        is_made_answer(m,draw,test,value) test_of(m,i,bits) distance(one,other) coupling_answer(one,other,s)
+        is_coupling_answer(one,other,s,value) bias(m,draw,lot) biases(m,draw)""",
+    "hardbits.words.designs": """is_design(l,value) common_number(l,design,i,j) common_rows(l,design)
+        elder_bits(l,design,i) line_lots(q,n,a,m) full_answer(l,n,a,lots) is_full_answer(l,n,a,lots,value)
+        most_lots(l,n,a) has_room(l,n,a,m) greatest_lots(l,n,a) is_greatest_lots(l,n,a,value)""",
+    "hardbits.words.bits": """bits_of(truth,l,design,seed) drawn_bits(truth,l,design)
+        bits_excess(truth,l,design,test) elder_tables(truth,l,design,i,others) is_predictor(l,design,value)
+        predicted(truth,l,design,test,predictor) predictor_sum(truth,l,design,test,predictor)
+        bits_answer(truth,l,design,test,e) is_bits_answer(truth,l,design,test,e,value) predictors_number(n,l,m)
+        rows_of(truth,l,design,test)""",
+}
+CONSTANTS = {
+    "hardbits.points.truths": {"MOST_POINTS": 32, "MOST_TESTS": 256},
+    "hardbits.game.games": {"MOST_ROWS": 24, "MOST_COLUMNS": 32},
+    "hardbits.words.designs": {"MOST_PLACES": 12, "MOST_TUPLES": 6},
+}
+LIBRARY = {"heapq": {"heappush", "heappop", "heapify", "heapreplace", "heappushpop"},
+           "math": {"gcd", "lcm", "isqrt", "comb", "perm", "factorial"},
+           "itertools": {"product", "combinations", "permutations", "chain", "accumulate", "pairwise", "islice",
+                         "zip_longest"},
+           "collections": {"defaultdict", "deque"}}
+BUILTINS = set("""len range enumerate zip min max sum abs sorted reversed int str bool bytes list tuple dict set
+    frozenset isinstance ord repr any all divmod pow getattr hasattr setattr iter next map super Exception
+    ValueError TypeError KeyError IndexError LookupError ZeroDivisionError ArithmeticError OverflowError RuntimeError NotImplementedError
+    AttributeError StopIteration NotImplemented""".split())
+METHODS = set("""append clear copy count endswith extend find get index insert isalnum isalpha isdigit islower isspace
+    isupper items join keys ljust lower lstrip partition pop remove replace reverse rfind rjust rpartition rsplit rstrip
+    setdefault split splitlines startswith strip update upper values zfill bit_length sort add discard __init__
+    """.split())
+
+
+def path_of(module):
+    return os.path.join(ROOT, *module.split(".")) + ".py"
+
+
+def files():
+    found = []
+    for folder, folders, names in os.walk(PACKAGE):
+        folders[:] = [name for name in folders if name != "__pycache__"]
+        found += [os.path.join(folder, name) for name in names]
+    return sorted(found)
+
+
+def source(path):
+    with open(path, encoding="utf-8") as opened:
+        return opened.read()
+
+
+def module_of(path):
+    return os.path.relpath(path, ROOT)[:-3].replace(os.sep, ".")
+
+
+class Interface(unittest.TestCase):
+
+    def test_names_stand_in_their_files(self):
+        for module, text in INTERFACE.items():
+            defined = {node.name: node for node in ast.parse(source(path_of(module))).body
+                       if isinstance(node, (ast.FunctionDef, ast.ClassDef))}
+            for entry in text.split():
+                name, _, parameters = entry.rstrip(")").partition("(")
+                self.assertIn(name, defined, module)
+                if parameters:
+                    arguments = defined[name].args
+                    self.assertEqual([argument.arg for argument in arguments.args], parameters.split(","), entry)
+                    self.assertFalse(arguments.defaults or arguments.kwonlyargs or arguments.vararg or arguments.kwarg)
+
+    def test_constants(self):
+        for module, wanted in CONSTANTS.items():
+            names = vars(__import__(module, fromlist=["x"]))
+            for name, value in wanted.items():
+                self.assertEqual((name, names[name]), (name, value))
+                self.assertIn(f"\n{name} = {value}\n", source(path_of(module)))
+
+    def test_each_module_can_be_imported_first(self):
+        for module in INTERFACE:
+            done = subprocess.run([sys.executable, "-W", "error", "-B", "-c", f"import {module}"], cwd=ROOT,
+                                  capture_output=True, text=True)
+            self.assertEqual((done.returncode, done.stdout, done.stderr), (0, "", ""), module)
+
+
+class Form(unittest.TestCase):
+
+    def trees(self):
+        for path in files():
+            yield path, ast.parse(source(path))
+
+    def test_the_folder_holds_python_files_only(self):
+        for path in files():
+            self.assertTrue(path.endswith(".py"), path)
+            self.assertTrue(os.path.exists(os.path.join(os.path.dirname(path), "__init__.py")), path)
+
+    def test_sizes_and_signs(self):
+        for path in files():
+            text = source(path)
+            self.assertTrue(text.endswith("\n"), path)
+            self.assertLessEqual(len(text.splitlines()), 399, path)
+            for line in text.split("\n"):
+                self.assertLessEqual(len(line), 120, (path, line))
+            self.assertTrue(all(sign == "\n" or " " <= sign <= "~" for sign in text), path)
+
+    def test_functions_are_small(self):
+        for path, tree in self.trees():
+            for node in ast.walk(tree):
+                if isinstance(node, ast.FunctionDef):
+                    self.assertLessEqual(node.end_lineno - node.lineno + 1, 40, (path, node.name))
+                    self.assertEqual(node.decorator_list, [], (path, node.name))
+
+    def test_modules_hold_plain_statements(self):
+        for path, tree in self.trees():
+            for node in tree.body:
+                plain = isinstance(node, (ast.ImportFrom, ast.FunctionDef, ast.ClassDef, ast.Assign))
+                told = isinstance(node, ast.Expr) and isinstance(node.value, ast.Constant)
+                self.assertTrue(plain or told, (path, node.lineno))
+
+    def test_imports(self):
+        homes = {module_of(path): {node.name for node in tree.body if hasattr(node, "name")}
+                 | {node.targets[0].id for node in tree.body if isinstance(node, ast.Assign)}
+                 for path, tree in self.trees()}
+        for path, tree in self.trees():
+            for node in ast.walk(tree):
+                self.assertNotIsInstance(node, ast.Import, path)
+                if isinstance(node, ast.ImportFrom):
+                    names = {alias.name for alias in node.names}
+                    self.assertFalse([alias for alias in node.names if alias.asname], path)
+                    self.assertLessEqual(names, LIBRARY.get(node.module) or homes.get(node.module, set()), path)
+
+    def test_no_import_in_a_round(self):
+        needs = {module_of(path): [node.module for node in tree.body if isinstance(node, ast.ImportFrom)]
+                 for path, tree in self.trees()}
+        done = set()
+        while len(done) < len(needs):
+            ready = {module for module, wanted in needs.items() if module not in done
+                     and all(other in done or other not in needs for other in wanted)}
+            self.assertTrue(ready, set(needs) - done)
+            done |= ready
+
+    def test_statements_and_values(self):
+        barred = (ast.Await, ast.AsyncFunctionDef, ast.AsyncFor, ast.AsyncWith, ast.Div)
+        for path, tree in self.trees():
+            for node in ast.walk(tree):
+                self.assertNotIsInstance(node, barred, (path, getattr(node, "lineno", 0)))
+                if isinstance(node, ast.Constant):
+                    self.assertNotIsInstance(node.value, (float, complex), path)
+                    self.assertFalse(isinstance(node.value, str) and "%" in node.value, path)
+
+    def test_names(self):
+        for path, tree in self.trees():
+            known = {node.name for node in tree.body if hasattr(node, "name")}
+            known |= {alias.name for node in tree.body if isinstance(node, ast.ImportFrom) for alias in node.names}
+            known |= {node.targets[0].id for node in tree.body if isinstance(node, ast.Assign)}
+            for function in ast.walk(tree):
+                if isinstance(function, ast.FunctionDef):
+                    self.check_names(path, function, known)
+
+    def check_names(self, path, function, known):
+        names = [node for node in ast.walk(function) if isinstance(node, ast.Name)]
+        local = {argument.arg for argument in function.args.args}
+        local |= {node.id for node in names if isinstance(node.ctx, ast.Store)}
+        self.assertFalse(local & known, (path, function.name))
+        self.assertFalse(local & set(dir(builtins)), (path, function.name))
+        for node in names:
+            if isinstance(node.ctx, ast.Load) and node.id not in local | known:
+                self.assertIn(node.id, BUILTINS, (path, function.name))
+
+    def test_methods_of_builtin_values(self):
+        own = {node.name for _, tree in self.trees() for owner in ast.walk(tree) if isinstance(owner, ast.ClassDef)
+               for node in owner.body if isinstance(node, ast.FunctionDef)}
+        for path, tree in self.trees():
+            for node in ast.walk(tree):
+                if isinstance(node, ast.Call) and isinstance(node.func, ast.Attribute):
+                    self.assertIn(node.func.attr, own | METHODS, (path, node.lineno))
+
+
+if __name__ == "__main__":
+    unittest.main()

@@ -55,8 +55,8 @@ LIBRARY = {"heapq": {"heappush", "heappop", "heapify", "heapreplace", "heappushp
            "collections": {"defaultdict", "deque"}}
 BUILTINS = set("""len range enumerate zip min max sum abs sorted reversed int str bool bytes list tuple dict set
     frozenset isinstance ord repr any all divmod pow getattr hasattr setattr iter next map super Exception
-    ValueError TypeError KeyError IndexError LookupError ZeroDivisionError ArithmeticError OverflowError RuntimeError NotImplementedError
-    AttributeError StopIteration NotImplemented""".split())
+    ValueError TypeError KeyError IndexError LookupError ZeroDivisionError ArithmeticError OverflowError RuntimeError
+    NotImplementedError AttributeError StopIteration NotImplemented""".split())
 METHODS = set("""append clear copy count endswith extend find get index insert isalnum isalpha isdigit islower isspace
     isupper items join keys ljust lower lstrip partition pop remove replace reverse rfind rjust rpartition rsplit rstrip
     setdefault split splitlines startswith strip update upper values zfill bit_length sort add discard __init__

@@ -51,6 +51,39 @@ raises InvalidOperation
 >>> core_answer(ONES, TWO, (1, 1), (5, 4))
 raises InvalidFraction
 """),
+    ("Stage 5: votes", "hardbits.core.votes", """
+>>> ONES, FOUR = (1, 1, 1, 1), ((1, 1, 1, -1), (1, 1, -1, 1), (1, -1, 1, 1), (-1, 1, 1, 1))
+>>> [vote_row(FOUR, (4, (1, 1, 1, 1))), wrong_points(ONES, (1, (2, 0, -1, 3))), margin(ONES, (3, (2, 1, 1, 4)))]
+[(2, (1, 1, 1, 1)), (1, 2), (1, 3)]
+>>> [fewest(ONES, FOUR, (3, 4), (0, 1)), fewest(ONES, FOUR, (1, 4), (0, 1)), voices(ONES, FOUR, (1, 4), (0, 1), 2), voices(ONES, FOUR, (1, 4), (0, 1), 3)]
+[(0,), (0, 1, 2), None, (0, 1, 2)]
+>>> [vote_answer((1, 1, 1), ((1, 1, -1),), (2, 3))[0], is_vote_answer((1, 1, 1), ((1, 1, -1),), (2, 3), ("vote", (1, (1,)))), is_vote_answer(ONES, FOUR, (3, 4), ("core", (1, (1, 1, 1, 0))))]
+['core', True, False]
+>>> voices(ONES, FOUR, (1, 4), (0, 1), 9)
+raises InvalidNumber(9)
+"""),
+    ("Stage 6: told rounds", "hardbits.core.rounds", """
+>>> ONES, FOUR = (1, 1, 1, 1), ((1, 1, 1, -1), (1, 1, -1, 1), (1, -1, 1, 1), (-1, 1, 1, 1))
+>>> [most_rounds((1, 1), (1, 2)), heights(ONES, FOUR, (0,), (1, 2)), weights_at(ONES, FOUR, (0,), (3, 4), (0, 1), (1, 4))]
+[15, (2, (1, 1, 1, -3)), (64, (61, 61, 61, 64))]
+>>> [next_of(ONES, FOUR, (), (3, 4), (0, 1), (1, 2)), next_of(ONES, FOUR, (0,), (3, 4), (0, 1), (1, 4)), falls(ONES, FOUR, (), (3, 4), (0, 1), (1, 4)), falls(ONES, FOUR, (0,), (3, 4), (0, 1), (1, 4))]
+[('core', (4, (3, 3, 3, 3))), ('tests', (0, 1, 2, 3)), (128, 3), (15643, 384)]
+>>> [run((1,), ((1,),), (1, 1), (0, 1), (1, 2)), run((1,), ((1,),), (1, 1), (0, 1), (1, 1)), is_run((1,), ((1,),), (1, 1), (0, 1), (1, 2), ((), ("vote",)))]
+[((0,), ('vote',)), ((), ('core', (1, (1,)))), False]
+>>> run(ONES, FOUR, (1, 8), (0, 1), (1, 8))
+raises TooMany(4096)
+"""),
+    ("Stage 7: linear truths", "hardbits.linear.linear", """
+>>> BENT, HALF = sign_row((1, 1, 1, -1)), (2, (2, -1, 0, 1))
+>>> [linear_truth((1, 0)), linear_truth((1, 1)), linear_sums(BENT)]
+[(1, -1, 1, -1), (1, -1, -1, 1), ((2, 1), (2, 1), (2, 1), (-2, 1))]
+>>> [linear_list(BENT, (1, 2)), linear_list(BENT, (1, 3)), begins(BENT, (1, 2))]
+[(), ((0, 0), (0, 1), (1, 0), (1, 1)), (((),), ((0,), (1,)), ())]
+>>> [linear_sum(HALF, (1, 0)), begin_weight(HALF, (1,)), nearest_linear(HALF), linear_list(HALF, (1, 4))]
+[(1, 1), (5, 1), ((1, 1), (2, 1)), ((1, 1),)]
+>>> linear_sum((1, (1, 1)), (1, 0))
+raises InvalidWord
+"""),
     ("Stage 8: draws of words", "hardbits.words.draws", """
 >>> TWIN, FLAT = draw_of(2, (1, 0, 0, 1)), even_draw(2)
 >>> [TWIN, excess(2, TWIN, (1, 0, 0, 1)), hybrid(2, TWIN, 1), steps(2, TWIN, (1, 0, 0, 1)), best_next(2, TWIN), best_bits(2, TWIN, 1)]
@@ -83,6 +116,63 @@ raises TooMany(12)
 >>> is_predictor(3, RING, (2, (0,), (1,), 1))
 False
 >>> bits_of(ODD, 3, RING, (1, 0))
+raises InvalidWord
+"""),
+    ("Stage 11: strings that are led back", "hardbits.words.strings", """
+>>> [string_excess(3, RING, EVENS, (1, 1)), string_excess(3, RING, EVENS, (1, 0)), not_within(3, RING, EVENS, (1, 4)), advices_number(3, RING, (3, 4))]
+[(1, 2), (0, 1), ((0, 0), (1, 1)), 56]
+>>> ADVICE = (2, ((0, 1), (0, 1)), (), 1, 0)
+>>> [advised_row(3, RING, EVENS, ADVICE), advised_list(3, RING, EVENS, (1, 4), ADVICE), led_back(3, RING, EVENS, (1, 4), ADVICE), led_back(3, RING, EVENS, (1, 4), ADVICE[:4] + (1,))]
+[(1, -1, -1, 1), ((1, 1),), (1, 1), None]
+>>> [string_answer(3, RING, EVENS, (1, 4), (1, 1))[0], string_answer(3, RING, EVENS, (1, 4), (1, 0)), is_string_answer(3, RING, EVENS, (1, 4), (1, 1), ("advice", ADVICE))]
+['advice', ('within', (0, 1)), True]
+>>> led_back(3, RING, EVENS, (1, 4), ADVICE[:4])
+raises InvalidAdvice
+"""),
+    ("Stage 12: sources", "hardbits.words.sources", """
+>>> PAIR, ALIKE = ((0, 1), (1, 0)), (1, 0, 0, 1)
+>>> [excess_row(3, PAIR, ALIKE), tried(3, PAIR, ALIKE, (3, 4)), source_excess(3, PAIR, ALIKE, (4, (1, 0, 0, 3))), source_excess(3, PAIR, ALIKE, (4, (1, 1, 1, 1)))]
+[(2, (1, 0, 0, 1)), ((0, 0), (0, 1), (1, 0), (1, 1)), (1, 2), (1, 4)]
+>>> [worst_source(3, PAIR, ALIKE, (1, 4))[:2], is_worst_source(3, PAIR, ALIKE, (1, 2), ("worst", (1, 2), (4, (2, 0, 0, 2)))), is_worst_source(3, PAIR, ALIKE, (1, 2), ("worst", (1, 2), (1, (1, 0, 0, 0))))]
+[('worst', (1, 4)), True, False]
+>>> [source_answer(3, PAIR, ALIKE, (1, 2), (1, 2)), source_answer(3, PAIR, ALIKE, (1, 2), (1, 3))[0], source_bound(4, ((0, 1), (2, 3)), (3, 4), (1, 4))]
+[('each', (2, (1, 0, 0, 1))), 'source', (11, 4)]
+>>> worst_source(3, PAIR, ALIKE, (1, 8))
+raises InvalidFraction
+"""),
+    ("Stage 13: sums of copies", "hardbits.copies.copies", """
+>>> ODD, BEND, SAME, WALL = ((1, -1), (1, -1)), (1, 1, 1, -1), ((1, 1), (1, 1)), (1, 1, -1, -1)
+>>> [copies(ODD), copies_sum(ODD, BEND), lines(2, 2, BEND)]
+[(1, -1, -1, 1), -2, ((-1, -1), (-1, 1), (1, -1), (1, 1))]
+>>> [copies_bound((1, 2), (1, 3), 2), copies_bound((1, 1), (0, 1), 3)]
+[(1, 2), (0, 1)]
+>>> splits(ODD, BEND, ((2, (1, 2)), (2, (1, 2))))
+((-2, 1), (-1, 4), (1, 4))
+>>> [copies_sum(SAME, WALL), copies_answer(SAME, WALL, (1, 1), (0, 1))[0], is_copies_answer(SAME, WALL, (1, 1), (0, 1), ("mix", 1, (1, (0, 0, 0, 1))))]
+[0, 'mix', True]
+>>> copies_bound((0, 1), (0, 1), 1)
+raises InvalidFraction
+"""),
+    ("Stage 14: from bits back to a truth", "hardbits.copies.chain", """
+>>> SAME, EQUAL, ROAD = ((0, 1), (0, 1)), (1, 0, 0, 1), (1, (), (), 0)
+>>> [chain_bound(2, 2, (1, 1), (1, 4)), chain_bound(2, 2, (1, 2), (1, 4)), chain_excess((1, -1), 2, 2, SAME, EQUAL)]
+[(1, 4), (7, 16), (1, 2)]
+>>> [chain_lines((1, -1), 2, 2, SAME, EQUAL, ROAD), chain_vote((1, -1), 2, 2, SAME, EQUAL, ROAD, (3, (1, 2))), chain_answer((1, -1), 2, 2, SAME, EQUAL, (1, 1), (1, 2))]
+[((-1, 1), (1, -1)), ((3, (1, -1)), ()), ('within', (1, 2))]
+>>> [chain_answer((1, -1), 2, 2, SAME, EQUAL, (1, 1), (1, 4))[0], is_chain_answer((1, -1), 2, 2, SAME, EQUAL, (1, 1), (1, 2), ("mix", ROAD, (1, (0, 1)))), is_chain_answer((1, -1), 2, 2, SAME, EQUAL, (1, 1), (1, 4), ("mix", ROAD, (3, (1, 2))))]
+['mix', True, True]
+>>> chain_bound(7, 2, (1, 1), (1, 4))
+raises InvalidNumber(7)
+"""),
+    ("Stage 15: longer words", "hardbits.longer.longer", """
+>>> EVER, EQUAL, KNOWN = ((0, 1), (1, 0)), (1, 0, 0, 1), (1, 1, 1, 0, 0, 0, 0, 1)
+>>> [led_on(EVER, (0,), 3), long_excess(EVER, 2, EQUAL), step_test(EVER, 2, EQUAL, ()), map_excess(EVER, (0, 1, 1, 0))]
+[((1, 1, 1), (0,)), (1, 2), (0, 1, 1, 0), (1, 2)]
+>>> [long_answer(EVER, 2, EQUAL, (1, 4)), long_answer(EVER, 2, EQUAL, (1, 5))]
+[('within', (1, 2)), ('step', ())]
+>>> [bit_map((1, 0), (1, -1)), guess_row((0, 1, 1, 0)), string_map((0, 1)), back_list((0, 1), KNOWN, (1, 2))]
+[((1, 0), (0, 1)), (1, (-1, 1)), ((0, 0, 0), (1, 0, 0), (0, 1, 0), (1, 1, 1)), ((0,), (1,))]
+>>> led_on(EVER, (0, 0), 1)
 raises InvalidWord
 """),
 )

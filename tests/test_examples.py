@@ -37,7 +37,7 @@ class Examples(unittest.TestCase):
                     count += 1
                     with self.subTest(section=title, line=line):
                         self.check(line[4:], lines[k + 1] if k + 1 < len(lines) else ">>> ", names)
-        self.assertEqual(count, 38)
+        self.assertEqual(count, 79)
 
     def check(self, line, following, names):
         if following.startswith(">>> "):

@@ -29,6 +29,14 @@ INTERFACE = {
     "hardbits.core.cores": """share_of(w) test_sums(f,family,w) margins(f,family,y) core_answer(f,family,d,e)
         is_core_answer(f,family,d,e,value) least_edge(f,family,d) edge_answer(f,family,d)
         is_edge_answer(f,family,d,value) share_answer(f,family,e) is_share_answer(f,family,e,value)""",
+    "hardbits.core.votes": """vote_row(family,mix) wrong_points(truth,row) margin(truth,row)
+        vote_answer(truth,family,d) is_vote_answer(truth,family,d,value) fewest(truth,family,d,e)
+        voices(truth,family,d,e,r)""",
+    "hardbits.core.rounds": """most_rounds(d,c) heights(truth,family,taken,e) weights_at(truth,family,taken,d,e,c)
+        falls(truth,family,taken,d,e,c) next_of(truth,family,taken,d,e,c) run(truth,family,d,e,c)
+        is_run(truth,family,d,e,c,value)""",
+    "hardbits.linear.linear": """sign_row(truth) linear_truth(string) linear_sum(row,string) linear_sums(row)
+        linear_list(row,e) begin_weight(row,begin) begins(row,e) nearest_linear(row)""",
     "hardbits.words.draws": """words(m) word_number(m,word) draw_of(m,counts) even_draw(m) excess(m,draw,test)
         hybrid(m,draw,number) steps(m,draw,test) advantage(m,draw,i,bits) best_next(m,draw) best_bits(m,draw,i)
         is_best_bits(m,draw,i,value) made_bits(m,test,i,last,r) made_answer(m,draw,test)
@@ -42,6 +50,22 @@ INTERFACE = {
         predicted(truth,l,design,test,predictor) predictor_sum(truth,l,design,test,predictor)
         bits_answer(truth,l,design,test,e) is_bits_answer(truth,l,design,test,e,value) predictors_number(n,l,m)
         rows_of(truth,l,design,test)""",
+    "hardbits.words.strings": """string_excess(l,design,test,string) is_advice(l,design,value)
+        advised_row(l,design,test,advice) advised_list(l,design,test,e,advice) led_back(l,design,test,e,advice)
+        string_answer(l,design,test,e,string) is_string_answer(l,design,test,e,string,value)
+        not_within(l,design,test,e) advices_number(l,design,e)""",
+    "hardbits.words.sources": """excess_row(l,design,test) tried(l,design,test,e) source_excess(l,design,test,source)
+        worst_source(l,design,test,top) is_worst_source(l,design,test,top,value)
+        source_answer(l,design,test,top,bound) is_source_answer(l,design,test,top,bound,value)
+        source_bound(l,design,e,top)""",
+    "hardbits.copies.copies": """copies(truths) copies_sum(truths,test) lines(N,k,test) copies_bound(d,e,k)
+        splits(truths,test,measures) copies_answer(truths,test,d,e) is_copies_answer(truths,test,d,e,value)""",
+    "hardbits.copies.chain": """chain_bound(m,k,d,e) chain_excess(truth,k,l,design,test)
+        chain_lines(truth,k,l,design,test,predictor) chain_answer(truth,k,l,design,test,d,e)
+        is_chain_answer(truth,k,l,design,test,d,e,value) chain_vote(truth,k,l,design,test,predictor,mix)""",
+    "hardbits.longer.longer": """led_on(table,seed,k) map_excess(table,test) long_excess(table,k,test)
+        step_test(table,k,test,first) long_answer(table,k,test,e) is_long_answer(table,k,test,e,value)
+        bit_map(turn,truth) guess_row(test) string_map(turn) back_list(turn,test,e)""",
 }
 CONSTANTS = {
     "hardbits.points.truths": {"MOST_POINTS": 32, "MOST_TESTS": 256},

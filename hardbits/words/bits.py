@@ -43,7 +43,7 @@ def bits_of(truth, l, design, seed):
     return _bits_at(truth, design, seed)
 
 
-def _counted(truth, l, design):
+def counted_bits(truth, l, design):
     """The draw of the bits over all seeds, in any terms."""
     counts = [0] * (1 << len(design))
     for number in range(1 << l):
@@ -54,7 +54,7 @@ def _counted(truth, l, design):
 def drawn_bits(truth, l, design):
     """The draw of words that the bits over all seeds are."""
     _need_truth_and_design(truth, l, design)
-    bottom, counts = _counted(truth, l, design)
+    bottom, counts = counted_bits(truth, l, design)
     return lowest_row(bottom, counts)
 
 
@@ -66,7 +66,7 @@ def _need_truth_design_and_test(truth, l, design, test):
 def bits_excess(truth, l, design, test):
     """The excess of the test for the bits over all seeds."""
     _need_truth_design_and_test(truth, l, design, test)
-    return excess_of(_counted(truth, l, design), test)
+    return excess_of(counted_bits(truth, l, design), test)
 
 
 def _filled(l, places, others):
@@ -137,7 +137,7 @@ def row_of_tables(design, test, i, tables, last, r):
     return tuple([sign_of(r if test[number + behind] else 1 - r) for number in numbers])
 
 
-def _row_of(truth, l, design, test, predictor):
+def row_of_predictor(truth, l, design, test, predictor):
     i, others, last, r = predictor
     return row_of_tables(design, test, i, _tables_of(truth, l, design, i, others), last, r)
 
@@ -151,13 +151,13 @@ def _need_predictor(truth, l, design, test, predictor):
 def predicted(truth, l, design, test, predictor):
     """The row of the predictor, a sign for each point."""
     _need_predictor(truth, l, design, test, predictor)
-    return _row_of(truth, l, design, test, predictor)
+    return row_of_predictor(truth, l, design, test, predictor)
 
 
 def predictor_sum(truth, l, design, test, predictor):
     """The sum of the products of the truth and the row of the predictor."""
     _need_predictor(truth, l, design, test, predictor)
-    return dot(truth, _row_of(truth, l, design, test, predictor))
+    return dot(truth, row_of_predictor(truth, l, design, test, predictor))
 
 
 def _need_all_for_answer(truth, l, design, test, e):
@@ -165,22 +165,22 @@ def _need_all_for_answer(truth, l, design, test, e):
     need_share(e)
 
 
-def _is_within(number, m, e):
+def is_within(number, m, e):
     """Whether the fraction has an amount of at most m e / 2."""
     return 2 * abs(number[0]) * e[1] <= m * e[0] * number[1]
 
 
 def _is_followed(truth, l, design, test, e, predictor):
     """Whether the sum of the truth and the row of the predictor has an amount above e N."""
-    found = abs(dot(truth, _row_of(truth, l, design, test, predictor)))
+    found = abs(dot(truth, row_of_predictor(truth, l, design, test, predictor)))
     return found * e[1] > e[0] * len(truth)
 
 
-def _following(truth, l, design, test, e):
+def following(truth, l, design, test, e):
     """A predictor whose sum has an amount above e N, where the excess has one above m e / 2."""
     # The sums of the predictors with i, last and r have the mean 2 N times the advantage of the made
     # predictor of the drawn bits, so that some of them reach this amount.
-    i, last, r = made_of(len(design), _counted(truth, l, design), test)
+    i, last, r = made_of(len(design), counted_bits(truth, l, design), test)
     free = l - len(design[0])
     for number in range(1 << free):
         predictor = (i, spelled(number, free), last, r)
@@ -192,18 +192,18 @@ def _following(truth, l, design, test, e):
 def bits_answer(truth, l, design, test, e):
     """The excess if it is within m e / 2, otherwise a predictor with a sum above e N, in amount."""
     _need_all_for_answer(truth, l, design, test, e)
-    found = excess_of(_counted(truth, l, design), test)
-    if _is_within(found, len(design), e):
+    found = excess_of(counted_bits(truth, l, design), test)
+    if is_within(found, len(design), e):
         return ("within", found)
-    return ("predictor", _following(truth, l, design, test, e))
+    return ("predictor", following(truth, l, design, test, e))
 
 
 def is_bits_answer(truth, l, design, test, e, value):
     """Whether the value is a right one of both, a predictor also if the excess is within."""
     _need_all_for_answer(truth, l, design, test, e)
     if is_answer(value, "within", 2):
-        found = excess_of(_counted(truth, l, design), test)
-        return is_lowest_pair(value[1]) and value[1] == found and _is_within(found, len(design), e)
+        found = excess_of(counted_bits(truth, l, design), test)
+        return is_lowest_pair(value[1]) and value[1] == found and is_within(found, len(design), e)
     if is_answer(value, "predictor", 2) and is_predictor(l, design, value[1]):
         return _is_followed(truth, l, design, test, e, value[1])
     return False
@@ -221,7 +221,7 @@ def predictors_number(n, l, m):
     return _predictors_count(n, l, m)
 
 
-def _last_and_bits(length):
+def last_and_bits(length):
     """All pairs of a word of so many last bits and a bit r."""
     return [(spelled(number, length), r) for number in range(1 << length) for r in range(2)]
 
@@ -236,6 +236,6 @@ def rows_of(truth, l, design, test):
     for i in range(m):
         for number in range(1 << free):
             tables = _tables_of(truth, l, design, i, spelled(number, free))
-            for last, r in _last_and_bits(m - i - 1):
+            for last, r in last_and_bits(m - i - 1):
                 rows[row_of_tables(design, test, i, tables, last, r)] = True
     return tuple(sorted(rows))

@@ -1,0 +1,1 @@
+"""Copies of truths, and the way from bits back to a truth."""

@@ -1,0 +1,1 @@
+"""Longer words, made from maps of seeds."""

@@ -86,6 +86,17 @@ METHODS = set("""append clear copy count endswith extend find get index insert i
     setdefault split splitlines startswith strip update upper values zfill bit_length sort add discard __init__
     """.split())
 
+SPOTS = ("range", "zip", "enumerate", "reversed", "map")
+TAKERS = ("list", "tuple", "dict", "sorted", "sum", "any", "all", "enumerate", "zip", "reversed", "min", "max")
+PICKERS = ("combinations", "permutations", "product")
+BARRED = set("""register mro elements open input law version_info with_traceback add_note attrgetter breakpoint builtins
+    compile copyright credits delattr dir eval exec exit gc globals help id importlib license locals methodcaller os quit
+    type vars sys typing enum Enum Generic Protocol ABC namedtuple dataclass overload contextmanager""".split())
+
+
+def is_call_of(node, names):
+    return isinstance(node, ast.Call) and isinstance(node.func, ast.Name) and node.func.id in names
+
 
 def path_of(module):
     return os.path.join(ROOT, *module.split(".")) + ".py"
@@ -227,6 +238,74 @@ class Form(unittest.TestCase):
             for node in ast.walk(tree):
                 if isinstance(node, ast.Call) and isinstance(node.func, ast.Attribute):
                     self.assertIn(node.func.attr, own | METHODS, (path, node.lineno))
+
+    def test_iterated_on_the_spot(self):
+        """[L23] What a range, a zip and the like give is not kept, passed on, or put elsewhere."""
+        for path, tree in self.trees():
+            let = set()
+            for node in ast.walk(tree):
+                if isinstance(node, (ast.For, ast.comprehension)):
+                    let.add(node.iter)
+                if isinstance(node, ast.Call) and isinstance(node.func, ast.Name) and node.func.id in TAKERS and node.args:
+                    let.add(node.args[0])
+                if isinstance(node, ast.Call) and isinstance(node.func, ast.Name) and node.func.id in PICKERS:
+                    let |= {argument for argument in node.args if is_call_of(argument, ("range",))}
+            for node in ast.walk(tree):
+                if is_call_of(node, SPOTS):
+                    self.assertIn(node, let, (path, node.lineno))
+
+    def test_generators_and_stars(self):
+        """[L7] Generator expressions stand directly in some builtins; stars in calls of max, min and zip."""
+        for path, tree in self.trees():
+            calls = [node for node in ast.walk(tree) if isinstance(node, ast.Call)]
+            let = {node.args[0] for node in calls if is_call_of(node, TAKERS + ("min", "max")) and node.args}
+            for node in ast.walk(tree):
+                if isinstance(node, ast.GeneratorExp):
+                    self.assertIn(node, let, (path, node.lineno))
+                if isinstance(node, ast.Call) and any(isinstance(value, ast.Starred) for value in node.args):
+                    self.assertTrue(is_call_of(node, ("max", "min", "zip")), (path, node.lineno))
+                self.assertNotIsInstance(node, (ast.Yield, ast.YieldFrom, ast.Global, ast.Set, ast.SetComp, ast.Lambda), path)
+
+    def test_exponents_and_sides(self):
+        """[L27] An exponent is a literal, or there is none; [L20] `is` stands beside None, True and False."""
+        for path, tree in self.trees():
+            for node in ast.walk(tree):
+                if isinstance(node, ast.BinOp) and isinstance(node.op, ast.Pow):
+                    self.assertIsInstance(node.right, ast.Constant, (path, node.lineno))
+                if isinstance(node, ast.Compare) and isinstance(node.ops[0], (ast.Is, ast.IsNot)):
+                    self.assertIsInstance(node.comparators[0], ast.Constant, (path, node.lineno))
+
+    def test_words_that_do_not_occur(self):
+        """[L12, L17] Names and strings have none of these words."""
+        for path, tree in self.trees():
+            told = {node.value.value for node in ast.walk(tree) if isinstance(node, ast.Expr)
+                    and isinstance(node.value, ast.Constant)}
+            for node in ast.walk(tree):
+                if isinstance(node, ast.Constant) and isinstance(node.value, str) and node.value not in told:
+                    self.assertFalse(set(node.value.replace(".", " ").split()) & BARRED, (path, node.value))
+                names = [getattr(node, field, None) for field in ("id", "attr", "arg", "name")]
+                for name in names:
+                    if isinstance(name, str):
+                        self.assertNotIn(name, BARRED, path)
+                        self.assertTrue(not name.startswith("__") or name == "__init__", (path, name))
+
+    def test_modules_bind_each_name_once(self):
+        """[L15]"""
+        for path, tree in self.trees():
+            names = [node.name for node in tree.body if hasattr(node, "name")]
+            names += [alias.name for node in tree.body if isinstance(node, ast.ImportFrom) for alias in node.names]
+            names += [node.targets[0].id for node in tree.body if isinstance(node, ast.Assign)]
+            self.assertEqual(len(names), len(set(names)), path)
+            self.assertFalse(set(names) & set(dir(builtins)), path)
+
+    def test_products_of_the_library(self):
+        """[L2] What combinations and the like give is gone through at once."""
+        for path, tree in self.trees():
+            let = {node.iter for node in ast.walk(tree) if isinstance(node, (ast.For, ast.comprehension))}
+            let |= {node.args[0] for node in ast.walk(tree) if is_call_of(node, TAKERS) and node.args}
+            for node in ast.walk(tree):
+                if is_call_of(node, ("combinations", "permutations", "product")):
+                    self.assertIn(node, let, (path, node.lineno))
 
 
 if __name__ == "__main__":

@@ -49,7 +49,8 @@ def _votes(truth, family, taken):
     often = [0] * len(family)
     for index in taken:
         often[index] += 1
-    return [sign * dot(often, point) for sign, point in zip(truth, zip(*family))]
+    columns = list(zip(*family))
+    return [sign * dot(often, column) for sign, column in zip(truth, columns)]
 
 
 def _heights_of(votes, rounds, e):

@@ -276,6 +276,9 @@ class Runs(Case):
                  ((0,) * 4097, ("vote",)), ((0,), ("vote", ())), ((0,), ()))
         self.judged(is_run, ((1,), ((1,),), (1, 1), (0, 1), (1, 2)), right, wrong)
         self.judged(is_run, ((1,), ((1,),), (1, 1), (0, 1), (1, 1)), (((), ("core", (1, (1,)))),), right)
+        # Where a test is still good, the run has no end, whatever the measure; where the vote is there, no other one.
+        self.judged(is_run, ((1,), ((1,),), (1, 1), (0, 1), (1, 2)), (), (((), ("core", (1, (1,)))), ((0,), ("core", (1, (1,))))))
+        self.judged(is_run, ((1, 1, 1, 1), FOUR, (3, 4), (0, 1), (1, 4)), (), (((), ("core", (4, (3, 3, 3, 3)))), ((), ("vote",))))
         # The second test is good at no time.
         truth, family = (1, 1), ((1, 1), (-1, -1))
         end = run(truth, family, (1, 2), (0, 1), (1, 1))

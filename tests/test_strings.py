@@ -226,6 +226,14 @@ class Answers(Case):
                         self.assertEqual(len(answer[1]), 5)
         self.assertGreater(min(kinds.values()), 300)
 
+    def test_tables_with_what_a_seed_adds(self):
+        # No advice with tables of the common places alone leads back here: what the seed tells elsewhere is needed.
+        for l, design, test in ((2, ((0,), (1,), (1,)), (0, 0, 0, 1, 1, 1, 1, 0)), (3, ((0,), (2,), (0,)), (1, 1, 1, 0, 0, 0, 0, 1)),
+                                (2, ((0,), (1,), (1,)), (0, 0, 0, 1, 0, 1, 0, 0))):
+            kind, advice = string_answer(l, design, test, (1, 8), (1,))
+            self.assertEqual(kind, "advice")
+            self.assertEqual(led_by_words(design, test, (1, 8), advice), (1,))
+
     def test_drawn_sizes(self):
         source = random.Random(21)
         for _ in range(120):

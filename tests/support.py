@@ -42,9 +42,11 @@ class Case(unittest.TestCase):
     """A test case that also checks errors, their sequence, and judges."""
 
     def fails(self, error, call, *arguments):
-        """Checks that just this error is raised, and returns it."""
+        """Checks that just this error is raised, and that no argument is changed; returns the error."""
+        before = changeable(arguments)
         with self.assertRaises(HardError, msg=(call.__name__, arguments)) as caught:
             call(*arguments)
+        self.assertEqual(changeable(arguments), before, call.__name__)
         self.assertIs(type(caught.exception), error, (call.__name__, arguments))
         return caught.exception
 
@@ -63,7 +65,9 @@ class Case(unittest.TestCase):
         it is raised, or None for a judged value. `then` are the errors that come behind all others: triples of
         arguments, an error and what it keeps.
         """
-        call(*good)
+        before = repr(good)
+        self.assertEqual(repr(call(*good)), repr(call(*good)))
+        self.assertEqual(repr(good), before)
         for k, entry in enumerate(wrong):
             if entry is not None:
                 for bad in entry[1]:
@@ -93,11 +97,20 @@ class Case(unittest.TestCase):
         for value in right:
             self.assertIs(judge(*arguments, value), True, (judge.__name__, arguments, value))
             for near in misshapen(value):
-                self.assertIs(judge(*arguments, near), False, (judge.__name__, arguments, near))
-        for value in wrong:
-            self.assertIs(judge(*arguments, value), False, (judge.__name__, arguments, value))
-        for value in JUNK:
-            self.assertIs(judge(*arguments, value), False, (judge.__name__, arguments, value))
+                self.refused(judge, arguments, near)
+        for value in wrong + JUNK:
+            self.refused(judge, arguments, value)
+
+    def refused(self, judge, arguments, value):
+        """Checks that the judge refuses the value, and does not change it."""
+        before = changeable((value,))
+        self.assertIs(judge(*arguments, value), False, (judge.__name__, arguments, value))
+        self.assertEqual(changeable((value,)), before, judge.__name__)
+
+
+def changeable(values):
+    """A text of those of the values that a call could change."""
+    return repr([value for value in values if isinstance(value, (list, dict))])
 
 
 def misshapen(value):

@@ -1,11 +1,11 @@
-"""The blocks of examples of the document, word for word, each with the module that it is about."""
+"""The blocks of examples of the document, word for word, each with the modules that it is about."""
 
 BLOCKS = (
-    ("Examples", None, """
+    ("Examples", (), r"""
 >>> ODD, EVENS = (1, -1, -1, 1), (1, 0, 0, 1, 0, 1, 1, 0)
 >>> RING = ((0, 1), (1, 2), (0, 2))
 """),
-    ("Stage 1: fractions, rows and least sums", "hardbits.base.fractions", """
+    ("Stage 1: fractions, rows and least sums", ("hardbits.base.fractions",), r"""
 >>> M = (2, (3, -1, 4, -1))
 >>> [least_sum(M, (1, 1)), least_sum(M, (5, 2)), greatest_sum(M, (3, 2)), row_sum(M), level_shows(M, (5, 2), (3, 2)), level_shows(M, (5, 2), (0, 1))]
 [(-1, 2), (-1, 4), (11, 4), (5, 2), (-1, 4), (-1, 1)]
@@ -18,7 +18,7 @@ BLOCKS = (
 >>> least_sum(M, (9, 2))
 raises InvalidFraction
 """),
-    ("Stage 2: truths, tests, families", "hardbits.points.truths", """
+    ("Stage 2: truths, tests, families", ("hardbits.points.truths",), r"""
 >>> BOTH, SUM = truth_of((0, 0, 0, 1)), truth_of((0, 1, 1, 0))
 >>> [BOTH, agreement(BOTH, SUM), apart_number(BOTH, SUM), opposite(BOTH), best_of(BOTH, (SUM, (1, 1, 1, 1), opposite(SUM))), closed_family((SUM,))]
 [(1, 1, 1, -1), -2, 3, (-1, -1, -1, 1), (2, 1), ((-1, 1, 1, -1), (1, -1, -1, 1))]
@@ -29,7 +29,7 @@ raises InvalidFraction
 >>> letter_family(4, 3)
 raises TooMany(256)
 """),
-    ("Stage 3: games", "hardbits.game.games", """
+    ("Stage 3: games", ("hardbits.game.games",), r"""
 >>> PENNIES, LEADS = (1, ((1, -1), (-1, 1))), (1, ((2, 0), (0, 3)))
 >>> [worth(PENNIES), worth(LEADS), worth((2, ((2, 0), (0, 3)))), row_pay(LEADS, (5, (3, 2))), column_pay(LEADS, (2, (1, 1)))]
 [(0, 1), (6, 5), (3, 5), (5, (6, 6)), (2, (2, 3))]
@@ -40,7 +40,7 @@ raises TooMany(256)
 >>> worth((1, ((1, 2), (3,))))
 raises InvalidOperation
 """),
-    ("Stage 4: cores", "hardbits.core.cores", """
+    ("Stage 4: cores", ("hardbits.core.cores",), r"""
 >>> ONES, TWO = (1, 1, 1), ((1, 1, -1), (1, -1, 1))
 >>> [least_edge(ONES, TWO, (1, 1)), least_edge(ONES, TWO, (5, 6)), least_edge(ONES, TWO, (2, 3)), share_answer(ONES, TWO, (1, 5))[1]]
 [(1, 3), (1, 5), (0, 1), (5, 6)]
@@ -51,7 +51,7 @@ raises InvalidOperation
 >>> core_answer(ONES, TWO, (1, 1), (5, 4))
 raises InvalidFraction
 """),
-    ("Stage 5: votes", "hardbits.core.votes", """
+    ("Stage 5: votes", ("hardbits.core.votes",), r"""
 >>> ONES, FOUR = (1, 1, 1, 1), ((1, 1, 1, -1), (1, 1, -1, 1), (1, -1, 1, 1), (-1, 1, 1, 1))
 >>> [vote_row(FOUR, (4, (1, 1, 1, 1))), wrong_points(ONES, (1, (2, 0, -1, 3))), margin(ONES, (3, (2, 1, 1, 4)))]
 [(2, (1, 1, 1, 1)), (1, 2), (1, 3)]
@@ -62,7 +62,7 @@ raises InvalidFraction
 >>> voices(ONES, FOUR, (1, 4), (0, 1), 9)
 raises InvalidNumber(9)
 """),
-    ("Stage 6: told rounds", "hardbits.core.rounds", """
+    ("Stage 6: told rounds", ("hardbits.core.rounds",), r"""
 >>> ONES, FOUR = (1, 1, 1, 1), ((1, 1, 1, -1), (1, 1, -1, 1), (1, -1, 1, 1), (-1, 1, 1, 1))
 >>> [most_rounds((1, 1), (1, 2)), heights(ONES, FOUR, (0,), (1, 2)), weights_at(ONES, FOUR, (0,), (3, 4), (0, 1), (1, 4))]
 [15, (2, (1, 1, 1, -3)), (64, (61, 61, 61, 64))]
@@ -73,7 +73,7 @@ raises InvalidNumber(9)
 >>> run(ONES, FOUR, (1, 8), (0, 1), (1, 8))
 raises TooMany(4096)
 """),
-    ("Stage 7: linear truths", "hardbits.linear.linear", """
+    ("Stage 7: linear truths", ("hardbits.linear.linear",), r"""
 >>> BENT, HALF = sign_row((1, 1, 1, -1)), (2, (2, -1, 0, 1))
 >>> [linear_truth((1, 0)), linear_truth((1, 1)), linear_sums(BENT)]
 [(1, -1, 1, -1), (1, -1, -1, 1), ((2, 1), (2, 1), (2, 1), (-2, 1))]
@@ -84,7 +84,7 @@ raises TooMany(4096)
 >>> linear_sum((1, (1, 1)), (1, 0))
 raises InvalidWord
 """),
-    ("Stage 8: draws of words", "hardbits.words.draws", """
+    ("Stage 8: draws of words", ("hardbits.words.draws",), r"""
 >>> TWIN, FLAT = draw_of(2, (1, 0, 0, 1)), even_draw(2)
 >>> [TWIN, excess(2, TWIN, (1, 0, 0, 1)), hybrid(2, TWIN, 1), steps(2, TWIN, (1, 0, 0, 1)), best_next(2, TWIN), best_bits(2, TWIN, 1)]
 [(2, (1, 0, 0, 1)), (1, 2), (4, (1, 1, 1, 1)), ((0, 1), (1, 2)), ((0, 1), (1, 2)), (0, 1)]
@@ -95,7 +95,7 @@ raises InvalidWord
 >>> hybrid(2, TWIN, 3)
 raises InvalidNumber(3)
 """),
-    ("Stage 9: designs", "hardbits.words.designs", """
+    ("Stage 9: designs", ("hardbits.words.designs",), r"""
 >>> LINES = line_lots(3, 3, 1, 4)
 >>> [LINES, common_rows(9, LINES)[3], elder_bits(9, LINES, 3), common_number(5, ((0, 2, 4), (4, 0, 1)), 0, 1), is_design(4, ((0, 1), (1, 0))), is_design(4, ((0, 0),))]
 [((0, 3, 6), (1, 4, 7), (2, 5, 8), (0, 4, 8)), (1, 1, 1, 3), 6, 2, True, False]
@@ -106,7 +106,7 @@ raises InvalidNumber(3)
 >>> line_lots(5, 3, 1, 2)
 raises TooMany(12)
 """),
-    ("Stage 10: bits of a truth", "hardbits.words.bits", """
+    ("Stage 10: bits of a truth", ("hardbits.words.bits",), r"""
 >>> [bits_of(ODD, 3, RING, (1, 0, 0)), drawn_bits(ODD, 3, RING[:2]), bits_excess(ODD, 3, RING, EVENS), predictors_number(2, 3, 3)]
 [(1, 0, 1), (4, (1, 1, 1, 1)), (1, 2), 28]
 >>> [elder_tables(ODD, 3, RING, 2, (0,)), predicted(ODD, 3, RING, EVENS, (2, (0,), (), 1)), predictor_sum(ODD, 3, RING, EVENS, (2, (0,), (), 1))]
@@ -118,7 +118,7 @@ False
 >>> bits_of(ODD, 3, RING, (1, 0))
 raises InvalidWord
 """),
-    ("Stage 11: strings that are led back", "hardbits.words.strings", """
+    ("Stage 11: strings that are led back", ("hardbits.words.strings",), r"""
 >>> [string_excess(3, RING, EVENS, (1, 1)), string_excess(3, RING, EVENS, (1, 0)), not_within(3, RING, EVENS, (1, 4)), advices_number(3, RING, (3, 4))]
 [(1, 2), (0, 1), ((0, 0), (1, 1)), 56]
 >>> ADVICE = (2, ((0, 1), (0, 1)), (), 1, 0)
@@ -129,7 +129,7 @@ raises InvalidWord
 >>> led_back(3, RING, EVENS, (1, 4), ADVICE[:4])
 raises InvalidAdvice
 """),
-    ("Stage 12: sources", "hardbits.words.sources", """
+    ("Stage 12: sources", ("hardbits.words.sources",), r"""
 >>> PAIR, ALIKE = ((0, 1), (1, 0)), (1, 0, 0, 1)
 >>> [excess_row(3, PAIR, ALIKE), tried(3, PAIR, ALIKE, (3, 4)), source_excess(3, PAIR, ALIKE, (4, (1, 0, 0, 3))), source_excess(3, PAIR, ALIKE, (4, (1, 1, 1, 1)))]
 [(2, (1, 0, 0, 1)), ((0, 0), (0, 1), (1, 0), (1, 1)), (1, 2), (1, 4)]
@@ -140,7 +140,7 @@ raises InvalidAdvice
 >>> worst_source(3, PAIR, ALIKE, (1, 8))
 raises InvalidFraction
 """),
-    ("Stage 13: sums of copies", "hardbits.copies.copies", """
+    ("Stage 13: sums of copies", ("hardbits.copies.copies",), r"""
 >>> ODD, BEND, SAME, WALL = ((1, -1), (1, -1)), (1, 1, 1, -1), ((1, 1), (1, 1)), (1, 1, -1, -1)
 >>> [copies(ODD), copies_sum(ODD, BEND), lines(2, 2, BEND)]
 [(1, -1, -1, 1), -2, ((-1, -1), (-1, 1), (1, -1), (1, 1))]
@@ -153,7 +153,7 @@ raises InvalidFraction
 >>> copies_bound((0, 1), (0, 1), 1)
 raises InvalidFraction
 """),
-    ("Stage 14: from bits back to a truth", "hardbits.copies.chain", """
+    ("Stage 14: from bits back to a truth", ("hardbits.copies.chain",), r"""
 >>> SAME, EQUAL, ROAD = ((0, 1), (0, 1)), (1, 0, 0, 1), (1, (), (), 0)
 >>> [chain_bound(2, 2, (1, 1), (1, 4)), chain_bound(2, 2, (1, 2), (1, 4)), chain_excess((1, -1), 2, 2, SAME, EQUAL)]
 [(1, 4), (7, 16), (1, 2)]
@@ -164,7 +164,7 @@ raises InvalidFraction
 >>> chain_bound(7, 2, (1, 1), (1, 4))
 raises InvalidNumber(7)
 """),
-    ("Stage 15: longer words", "hardbits.longer.longer", """
+    ("Stage 15: longer words", ("hardbits.longer.longer",), r"""
 >>> EVER, EQUAL, KNOWN = ((0, 1), (1, 0)), (1, 0, 0, 1), (1, 1, 1, 0, 0, 0, 0, 1)
 >>> [led_on(EVER, (0,), 3), long_excess(EVER, 2, EQUAL), step_test(EVER, 2, EQUAL, ()), map_excess(EVER, (0, 1, 1, 0))]
 [((1, 1, 1), (0,)), (1, 2), (0, 1, 1, 0), (1, 2)]
@@ -174,5 +174,83 @@ raises InvalidNumber(7)
 [((1, 0), (0, 1)), (1, (-1, 1)), ((0, 0, 0), (1, 0, 0), (0, 1, 0), (1, 1, 1)), ((0,), (1,))]
 >>> led_on(EVER, (0, 0), 1)
 raises InvalidWord
+"""),
+    ("Stage 16: maps that seldom meet", ("hardbits.near.maps",), r"""
+>>> TO_BIT = linear_maps(2, 1)
+>>> [TO_BIT, chance_of_meeting(2, TO_BIT, 0, 3), mean_meeting(2, TO_BIT), meets_answer(2, TO_BIT), are_even(2, TO_BIT), are_even(2, affine_maps(2, 1))]
+[((0, 0, 0, 0), (0, 0, 1, 1), (0, 1, 0, 1), (0, 1, 1, 0)), (1, 2), (1, 2), ('seldom',), False, True]
+>>> [leftover(2, TO_BIT, (4, (1, 1, 1, 1))), leftover_parts(2, TO_BIT[1:], (4, (1, 1, 1, 1))), mean_distance(2, TO_BIT, (4, (1, 1, 1, 1))), spread(2, (0, 0, 1, 1), (6, (3, 1, 1, 1)))]
+[(1, 8), ((1, 8), (-1, 8)), (1, 8), (3, (2, 1))]
+>>> [least_meeting(4, 2), least_meeting(5, 2), meets_answer(2, ((0, 0, 1),)), field_maps(2)]
+[(1, 3), (2, 5), ('pair', 0, 1), ((0, 0), (0, 1), (1, 0), (1, 1))]
+>>> affine_maps(3, 2)
+raises TooMany(64)
+"""),
+    ("Stage 17: dense models", ("hardbits.near.dense",), r"""
+>>> LONE, PAIR, SIDES, EVEN = (1, (1, 0, 0, 0)), (2, (1, 1, 0, 0)), ((1, 1, -1, -1), (1, -1, 1, -1)), (2, (1, 1, 0, 0))
+>>> [signed_row(SIDES, EVEN), difference(LONE, SIDES, (1, 2), EVEN), nearness_answer(LONE, SIDES, (1, 2))[1]]
+[(1, (1, 0, 0, -1)), (1, 2), (1, 2)]
+>>> [dense_answer(LONE, SIDES, (1, 2), (1, 3))[0], is_dense_answer(LONE, SIDES, (1, 2), (1, 2), ("model", (2, (2, 1, 1, 0))))]
+['mix', True]
+>>> [is_part(LONE, PAIR, (1, 2)), is_part(LONE, PAIR, (2, 3)), level_of(LONE, PAIR, SIDES, (1, 2), EVEN)]
+[True, False, (0, 1)]
+>>> level_of((1, (0, 0, 0, 1)), PAIR, SIDES, (1, 2), EVEN)
+raises InvalidOperation
+"""),
+    ("Stage 18: likenesses", ("hardbits.near.likeness",), r"""
+>>> ONES, TWO = (1, 1, 1), ((1, 1, -1), (1, -1, 1))
+>>> [farness((1, ONES), (2, (1, 0, 0)), TWO), is_like((1, ONES), TWO, (1, 4), (2, (1, 0, 0))), is_like((1, ONES), TWO, (1, 4), (4, (1, 1, -1))), likeness_log((1, ONES), TWO, (1, 2))]
+[(2, (1, 1)), True, False, ()]
+>>> [is_likeness_log((1, ONES), TWO, (1, 4), ((1, 1), (0, 1))), is_likeness_log((1, ONES), TWO, (1, 4), ((0, 1),)), likeness_row(TWO, (1, 4), ((0, 1), (1, 1)))]
+[True, False, (2, (1, 0, 0))]
+>>> [likeness_log((1, (1,)), ((1,),), (1, 4)), road_answer(ONES, TWO, (1, 3), (1, 4))[0], is_road_answer(ONES, TWO, (1, 2), (1, 4), ("row", ((0, 1), (1, 1)))), is_road_answer(ONES, TWO, (1, 3), (1, 4), ("core", (5, (1, 2, 2))))]
+[((0, 1), (0, 1), (0, 1)), 'core', True, True]
+>>> likeness_log((1, ONES), TWO, (1, 20))
+raises InvalidFraction
+"""),
+    ("Stage 19: few draws for all", ("hardbits.few.draws",), r"""
+>>> GOODS, EVEN = ((1, 1, 0), (0, 1, 1), (1, 0, 1)), (3, (1, 1, 1))
+>>> [least_chance(GOODS, EVEN), bare_rows(GOODS, (2,)), least_draws(GOODS), is_draws(GOODS, EVEN, (0, 1)), is_draws(GOODS, EVEN, (2, 2)), is_draws(GOODS, EVEN, (0, 1, 2))]
+[(2, 3), (0,), 2, True, False, False]
+>>> [is_most(GOODS, 3, (0, 1, 2)), shifts_answer(2, (0, 1, 2), 2)[0], is_cover(2, (0, 1, 2), 2, (0, 3)), shifts_answer(3, (0,), 4), shifts_answer(2, (0, 1), 2), uncovered(2, (0, 1), (0,))]
+[True, 'shifts', True, ('few', 4), ('open',), (2, 3)]
+>>> [least_lots((1, 2, 1), ((0,), (1,), (2,))), tie_weight((1, 2, 1), ((0,), (1,), (2,)), 0), single_number(2, 3, ((0,), (1,)))]
+[((0,), (2,)), 1, 6]
+>>> most_by_mean(GOODS, EVEN, 1)
+raises Refused(('open',))
+"""),
+    ("Stage 20: trees of bits", ("hardbits.longer.trees",), r"""
+>>> TURN, ASK = ((0, 1), (1, 0)), (0, ((1, (0, 1)), (1, (1, 0))))
+>>> [tree_word(1, TURN, 2, 0, 2), tree_word(1, TURN, 2, 1, 0), questions(1, 1, ASK), real_chance(1, TURN, 1, ASK), even_chance(1, 1, ASK), asker_edge(1, TURN, 1, ASK)]
+[1, 1, 2, (1, 1), (1, 2), (1, 2)]
+>>> [made_test(1, TURN, 1, ASK, 0, 0, (None, 1)), made_test(1, TURN, 1, ASK, 0, 1, ((0, 1), None)), pair_edge(1, TURN, (0, 1, 1, 0)), step_mean(1, TURN, 1, ASK, 0, 0), step_mean(1, TURN, 1, ASK, 0, 1)]
+[(0, 1, 1, 0), (1, 1, 1, 1), (1, 2), (1, 2), (0, 1)]
+>>> [is_broken_by(1, TURN, 1, ASK, (0, 0, (None, 0))), is_broken_by(1, TURN, 1, ASK, (0, 1, ((0, 0), None))), even_chance(1, 2, (0, ((0, (0, 1)), 1))), asker_edge(1, TURN, 2, (3, (0, 1)))]
+[True, False, (1, 2), (0, 1)]
+>>> broken_by(1, TURN, 1, 1)
+raises InvalidOperation
+"""),
+    ("Stage 21: claims and papers", ("hardbits.judge.judge", "hardbits.judge.answers"), r"""
+>>> ONES, TWO = (1, 1, 1), ((1, 1, -1), (1, -1, 1))
+>>> CLAIM, TWINS = ("core", ONES, TWO, (2, 3), (0, 1)), ((0, 1), (0, 1))
+>>> [takes(CLAIM, (2, (0, 2, 2))), takes(opposite(CLAIM), (2, (1, 1))), answered(("mix", ONES, TWO, (1, 1), (1, 4)))[0][0], is_claim(("core", ONES, TWO, (1, 1), (5, 4)))]
+[True, False, 'mix', False]
+>>> [takes(("held", (1, ((1, -1), (-1, 1))), (0, 1)), (2, (1, 1))), takes(("apart", (1, (1, 0)), (2, (1, 1)), (1, 3)), (0,)), answered(("held", (1, ((2,),)), (3, 1)))[0]]
+[True, True, ('beaten', (1, ((2,),)), (3, 1))]
+>>> [takes(("within", 2, TWINS, (1, 0, 0, 1), (1, 2), (1, 1)), 4), takes(("beyond", 2, TWINS, (1, 0, 0, 1), (1, 4), (1, 1)), (4, (1, ((0, 1, 1, 0),), (), 0, 0))), answered(("kept", (1, -1), 2, 2, TWINS, (1, 0, 0, 1), (1, 1), (1, 2)))[1]]
+[True, True, 4]
+>>> opposite(("core", ONES))
+raises InvalidClaim
+"""),
+    ("Stage 22: texts, and a bench", ("hardbits.use.texts", "hardbits.use.bench"), r"""
+>>> [fraction_text((-3, 2)), row_text((2, (3, -1, 4))), truth_text((1, -1, 1)), design_text(5, ((0, 1), (1, 4))), asker_text(1, 2, (3, (0, (1, (1, 1)))))]
+['-3/2\n', '2: 3 -1 4\n', '+-+\n', '0 1\n1 4\n', 'ask 3\n0\nask 1\n1\n1\n']
+>>> B = Bench(3)
+>>> [B.tell(line) for line in ("tuple 0 1", "tuple 1 0", "test 1001", "string 11", "edge 1/2", "excess", "side", "drop 0", "undo")]
+['1 tuples of 2', '2 tuples of 2', 'kept', 'kept', 'kept', '1/2', 'within', '1 tuples of 2', 'undone']
+>>> [len(B), str(B), B.test, read_fraction("2/3\n"), read_design(5, "0 4\n")]
+[2, 'bench of 3 places, 2 tuples', (1, 0, 0, 1), (2, 3), ((0, 4),)]
+>>> read_row("2: 1  3\n")
+raises ParseError(0)
 """),
 )

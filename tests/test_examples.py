@@ -28,8 +28,8 @@ class Examples(unittest.TestCase):
 
     def test_all_blocks(self):
         names, count = {}, 0
-        for title, module, text in BLOCKS:
-            if module is not None:
+        for title, modules, text in BLOCKS:
+            for module in modules:
                 names.update(public_names(importlib.import_module(module)))
             lines = text.strip().split("\n")
             for k, line in enumerate(lines):
@@ -37,7 +37,7 @@ class Examples(unittest.TestCase):
                     count += 1
                     with self.subTest(section=title, line=line):
                         self.check(line[4:], lines[k + 1] if k + 1 < len(lines) else ">>> ", names)
-        self.assertEqual(count, 79)
+        self.assertEqual(count, 115)
 
     def check(self, line, following, names):
         if following.startswith(">>> "):

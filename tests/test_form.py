@@ -66,11 +66,37 @@ INTERFACE = {
     "hardbits.longer.longer": """led_on(table,seed,k) map_excess(table,test) long_excess(table,k,test)
         step_test(table,k,test,first) long_answer(table,k,test,e) is_long_answer(table,k,test,e,value)
         bit_map(turn,truth) guess_row(test) string_map(turn) back_list(turn,test,e)""",
+    "hardbits.near.maps": """chance_of_meeting(M,maps,one,other) mean_meeting(M,maps) meets_answer(M,maps)
+        is_meets_answer(M,maps,value) are_even(M,maps) spread(M,values,p) leftover(M,maps,p)
+        leftover_parts(M,maps,p) mean_distance(M,maps,p) least_meeting(points,M) linear_maps(n,m)
+        affine_maps(n,m) field_maps(q)""",
+    "hardbits.near.dense": """dense_answer(draw,family,d,e) is_dense_answer(draw,family,d,e,value)
+        nearness_answer(draw,family,d) is_nearness_answer(draw,family,d,value) signed_row(family,mix)
+        difference(draw,family,d,mix) is_part(draw,other,d) level_of(draw,other,family,d,mix)""",
+    "hardbits.near.likeness": """farness(row,other,family) is_like(row,family,e,value) likeness_log(row,family,e)
+        is_likeness_log(row,family,e,value) likeness_row(family,e,log) road_answer(f,family,d,e)
+        is_road_answer(f,family,d,e,value)""",
+    "hardbits.few.draws": """bare_rows(goods,draws) least_chance(goods,mix) draws_by_mean(goods,mix)
+        is_draws(goods,mix,value) most_by_mean(goods,mix,t) is_most(goods,t,value) least_draws(goods)
+        uncovered(n,lot,shifts) shifts_answer(n,lot,k) is_cover(n,lot,k,value) least_lots(weights,lots)
+        tie_weight(weights,lots,place) single_number(m,W,lots)""",
+    "hardbits.longer.trees": """tree_word(n,doubling,t,seed,x) is_asker(n,t,value) questions(n,t,asker)
+        real_chance(n,doubling,t,asker) even_chance(n,t,asker) asker_edge(n,doubling,t,asker)
+        pair_edge(n,doubling,test) made_test(n,doubling,t,asker,i,j,others) step_mean(n,doubling,t,asker,i,j)
+        broken_by(n,doubling,t,asker) is_broken_by(n,doubling,t,asker,value)""",
+    "hardbits.judge.judge": """is_claim(value) opposite(claim) takes(claim,paper)""",
+    "hardbits.judge.answers": """answered(claim)""",
+    "hardbits.use.texts": """fraction_text(number) read_fraction(text) row_text(row) read_row(text) truth_text(f)
+        read_truth(text) design_text(l,design) read_design(l,text) test_text(m,test) read_test(m,text)
+        asker_text(n,t,asker) read_asker(n,t,text)""",
+    "hardbits.use.bench": """Bench""",
 }
+METHODS_OF = {("hardbits.use.bench", "Bench"): """__init__(self,l) tell(self,line) __len__(self) __str__(self)"""}
 CONSTANTS = {
     "hardbits.points.truths": {"MOST_POINTS": 32, "MOST_TESTS": 256},
     "hardbits.game.games": {"MOST_ROWS": 24, "MOST_COLUMNS": 32},
     "hardbits.words.designs": {"MOST_PLACES": 12, "MOST_TUPLES": 6},
+    "hardbits.near.likeness": {"MOST_STEPS": 256},
 }
 LIBRARY = {"heapq": {"heappush", "heappop", "heapify", "heapreplace", "heappushpop"},
            "math": {"gcd", "lcm", "isqrt", "comb", "perm", "factorial"},
@@ -84,7 +110,11 @@ BUILTINS = set("""len range enumerate zip min max sum abs sorted reversed int st
 METHODS = set("""append clear copy count endswith extend find get index insert isalnum isalpha isdigit islower isspace
     isupper items join keys ljust lower lstrip partition pop remove replace reverse rfind rjust rpartition rsplit rstrip
     setdefault split splitlines startswith strip update upper values zfill bit_length sort add discard __init__
-    """.split())
+    removeprefix removesuffix""".split())
+# The double-underscore methods that a class may have.
+DOUBLE = ("__init__", "__eq__", "__repr__", "__str__", "__len__")
+# What the checker may rest on.
+CHECKER = ("hardbits.errors", "hardbits.base.", "hardbits.judge.")
 
 SPOTS = ("range", "zip", "enumerate", "reversed", "map")
 TAKERS = ("list", "tuple", "dict", "sorted", "sum", "any", "all", "enumerate", "zip", "reversed", "min", "max")
@@ -92,6 +122,9 @@ PICKERS = ("combinations", "permutations", "product")
 BARRED = set("""register mro elements open input law version_info with_traceback add_note attrgetter breakpoint builtins
     compile copyright credits delattr dir eval exec exit gc globals help id importlib license locals methodcaller os quit
     type vars sys typing enum Enum Generic Protocol ABC namedtuple dataclass overload contextmanager""".split())
+# These words do not occur in strings either.
+BARRED_IN_STRINGS = set("""type typing typing_extensions enum Enum IntEnum StrEnum Flag IntFlag Generic Protocol ABC
+    ABCMeta namedtuple NamedTuple TypedDict TYPE_CHECKING abstractmethod dataclass overload contextmanager""".split())
 
 
 def is_call_of(node, names):
@@ -129,9 +162,38 @@ class Interface(unittest.TestCase):
                 name, _, parameters = entry.rstrip(")").partition("(")
                 self.assertIn(name, defined, module)
                 if parameters:
-                    arguments = defined[name].args
-                    self.assertEqual([argument.arg for argument in arguments.args], parameters.split(","), entry)
-                    self.assertFalse(arguments.defaults or arguments.kwonlyargs or arguments.vararg or arguments.kwarg)
+                    self.check_parameters(defined[name], parameters)
+
+    def check_parameters(self, function, parameters):
+        arguments = function.args
+        self.assertEqual([argument.arg for argument in arguments.args], parameters.split(","), function.name)
+        self.assertFalse(arguments.defaults or arguments.kwonlyargs or arguments.vararg or arguments.kwarg)
+
+    def test_methods_stand_in_their_classes(self):
+        for (module, owner), text in METHODS_OF.items():
+            found = [node for node in ast.parse(source(path_of(module))).body if getattr(node, "name", None) == owner]
+            methods = {node.name: node for node in found[0].body if isinstance(node, ast.FunctionDef)}
+            for entry in text.split():
+                name, _, parameters = entry.rstrip(")").partition("(")
+                self.assertIn(name, methods, (module, owner))
+                self.check_parameters(methods[name], parameters)
+
+    def test_the_checker_rests_on_little(self):
+        """[21] hardbits.judge.judge uses the errors, the base and what stands beside it, and so do these."""
+        wanted, seen = ["hardbits.judge.judge"], set()
+        while wanted:
+            module = wanted.pop()
+            seen.add(module)
+            for node in ast.walk(ast.parse(source(path_of(module)))):
+                if isinstance(node, ast.ImportFrom) and node.module.startswith("hardbits"):
+                    self.assertTrue(node.module.startswith(CHECKER), (module, node.module))
+                    wanted += [node.module] if node.module not in seen else []
+        self.assertNotIn("hardbits.judge.answers", seen)
+        done = subprocess.run([sys.executable, "-B", "-c", "import hardbits.judge.judge, sys; print(*sorted(sys.modules))"],
+                              cwd=ROOT, capture_output=True, text=True)
+        loaded = {name for name in done.stdout.split() if name.startswith("hardbits.")}
+        self.assertLessEqual(seen, loaded)
+        self.assertFalse([name for name in loaded if not (name + ".").startswith(CHECKER)])
 
     def test_constants(self):
         for module, wanted in CONSTANTS.items():
@@ -282,12 +344,12 @@ class Form(unittest.TestCase):
                     and isinstance(node.value, ast.Constant)}
             for node in ast.walk(tree):
                 if isinstance(node, ast.Constant) and isinstance(node.value, str) and node.value not in told:
-                    self.assertFalse(set(node.value.replace(".", " ").split()) & BARRED, (path, node.value))
+                    self.assertFalse(set(node.value.replace(".", " ").split()) & BARRED_IN_STRINGS, (path, node.value))
                 names = [getattr(node, field, None) for field in ("id", "attr", "arg", "name")]
                 for name in names:
                     if isinstance(name, str):
                         self.assertNotIn(name, BARRED, path)
-                        self.assertTrue(not name.startswith("__") or name == "__init__", (path, name))
+                        self.assertTrue(not name.startswith("__") or name in DOUBLE, (path, name))
 
     def test_modules_bind_each_name_once(self):
         """[L15]"""

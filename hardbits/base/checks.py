@@ -1,7 +1,7 @@
 """Checks of parameters: each one raises its error, or does nothing."""
 
-from hardbits.base.kinds import is_between, is_design_below, is_family_on, is_measure_within, is_mix
-from hardbits.base.kinds import is_row_within, is_short, is_short_fraction, is_truth_within, is_word
+from hardbits.base.kinds import is_between, is_design_below, is_family_on, is_fraction_between, is_measure_within
+from hardbits.base.kinds import is_mix, is_row_within, is_share, is_short, is_short_fraction, is_truth_within, is_word
 from hardbits.errors import InvalidDesign, InvalidDraw, InvalidFamily, InvalidFraction, InvalidMeasure, InvalidMix
 from hardbits.errors import InvalidNumber, InvalidRow, InvalidTruth, InvalidWord
 
@@ -27,15 +27,15 @@ def need_fraction(value):
 def need_fraction_between(value, low, high):
     """Raises unless the value is a fraction from the integer low to the integer high."""
     need_fraction(value)
-    if not low * value[1] <= value[0] <= high * value[1]:
+    if not is_fraction_between(value, low, high):
         raise InvalidFraction("not a fraction within the bounds")
 
 
 def need_share(value):
     """Raises unless the value is a fraction above 0, at most 1."""
-    need_fraction_between(value, 0, 1)
-    if value[0] == 0:
-        raise InvalidFraction("a share is above 0")
+    need_fraction(value)
+    if not is_share(value):
+        raise InvalidFraction("a share is above 0, at most 1")
 
 
 def need_row(value, most):

@@ -42,6 +42,14 @@ def amount(number):
     return (abs(number[0]), number[1])
 
 
+def raised(number, k):
+    """The product of k times the same integer."""
+    found = 1
+    for _ in range(k):
+        found *= number
+    return found
+
+
 def dot(one, other):
     """The sum of the products of two tuples of integers."""
     return sum([left * right for left, right in zip(one, other)])

@@ -103,6 +103,16 @@ def is_lowest_pair(value):
     return is_integer(top) and is_integer(bottom) and bottom >= 1 and gcd(top, bottom) == 1
 
 
+def is_fraction_between(value, low, high):
+    """Whether the value is a fraction from the integer low to the integer high."""
+    return is_lowest_pair(value) and low * value[1] <= value[0] <= high * value[1]
+
+
+def is_share(value):
+    """Whether the value is a fraction above 0, at most 1."""
+    return is_fraction_between(value, 0, 1) and value[0] > 0
+
+
 def is_short_fraction(value):
     """Whether the value is a fraction of integers of at most nine digits."""
     return is_lowest_pair(value) and is_short(value[0]) and is_short(value[1])

@@ -2,15 +2,17 @@
 
 from hardbits.base.checks import need_design, need_fraction_between, need_mix, need_number, need_share, need_table
 from hardbits.base.codes import log_of
+from hardbits.base.copying import bound_of, copies_of, lines_of
 from hardbits.base.exact import reduced
 from hardbits.base.kinds import is_answer, is_lowest_pair, is_truth_within
-from hardbits.copies.copies import MOST_COPIES, bound_of, copies_of, lines_of
-from hardbits.core.edges import edge_of, is_mix_above
+from hardbits.base.margins import is_mix_above
+from hardbits.base.reading import counted_bits, excess_of, is_predictor_of, is_within, row_of_predictor
+from hardbits.copies.copies import MOST_COPIES
+from hardbits.core.edges import edge_of
 from hardbits.core.votes import vote_row_of, wrong_points_of
 from hardbits.errors import InvalidAdvice, InvalidDesign, InvalidTruth
-from hardbits.words.bits import counted_bits, following, is_predictor, is_within, row_of_predictor
+from hardbits.words.bits import following
 from hardbits.words.designs import MOST_PLACES, MOST_TUPLES
-from hardbits.words.draws import excess_of
 
 _MOST_CHAIN_POINTS = 8
 
@@ -52,7 +54,7 @@ def chain_excess(truth, k, l, design, test):
 
 
 def _need_predictor(l, design, predictor):
-    if not is_predictor(l, design, predictor):
+    if not is_predictor_of(l, design, predictor):
         raise InvalidAdvice("not a predictor for this design and test")
 
 
@@ -75,21 +77,27 @@ def _need_all_for_answer(truth, k, l, design, test, d, e):
     need_fraction_between(e, 0, 1)
 
 
+def following_mix(truth, k, l, design, test, d, e):
+    """A predictor, and a mix of its lines that is above e for d, where the excess is not within the chain bound."""
+    # Its sum with the copies is above what cores would let, so that a mix of its lines bars each core.
+    predictor = following(_copied(truth, k), l, design, test, bound_of(d, e, k))
+    family = _lines(truth, k, l, design, test, predictor)
+    return (predictor, edge_of(truth, family, d)[2])
+
+
 def chain_answer(truth, k, l, design, test, d, e):
     """The excess if it is within the chain bound, otherwise a predictor with a mix of its lines above e."""
     _need_all_for_answer(truth, k, l, design, test, d, e)
-    found, bound = _excess(truth, k, l, design, test), bound_of(d, e, k)
-    if is_within(found, len(design), bound):
+    found = _excess(truth, k, l, design, test)
+    if is_within(found, len(design), bound_of(d, e, k)):
         return ("within", found)
-    # Its sum with the copies is above what cores would let, so that a mix of its lines bars each core.
-    predictor = following(_copied(truth, k), l, design, test, bound)
-    family = _lines(truth, k, l, design, test, predictor)
-    return ("mix", predictor, edge_of(truth, family, d)[2])
+    predictor, mix = following_mix(truth, k, l, design, test, d, e)
+    return ("mix", predictor, mix)
 
 
 def _is_followed(truth, k, l, design, test, d, e, predictor, mix):
     """Whether these are a predictor and a mix of its lines that is above e."""
-    if not is_predictor(l, design, predictor):
+    if not is_predictor_of(l, design, predictor):
         return False
     return is_mix_above(truth, _lines(truth, k, l, design, test, predictor), d, e, mix)
 

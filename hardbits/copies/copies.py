@@ -1,9 +1,11 @@
 """Stage 13: sums of copies of truths, and the lines of tests on their points."""
 
 from hardbits.base.checks import need_fraction_between, need_number, need_share
-from hardbits.base.exact import by, dot, minus, ordered, plus, reduced
+from hardbits.base.copying import bound_of, copies_of, lines_of
+from hardbits.base.exact import dot, ordered, raised, reduced
 from hardbits.base.kinds import is_answer, is_index, is_part_row, is_signs, is_truth_within, is_tuple_of
-from hardbits.core.edges import edge_of, is_core_of, is_mix_above
+from hardbits.base.margins import is_core_of, is_mix_above
+from hardbits.core.edges import edge_of
 from hardbits.core.needs import need_little_work
 from hardbits.errors import InvalidMeasure, InvalidTruth, TooMany
 from hardbits.points.truths import MOST_POINTS, MOST_TESTS
@@ -13,16 +15,8 @@ MOST_COPIES = 3
 _MOST_COPY_POINTS = 4096
 
 
-def _count_of(N, k):
-    """The number N ** k of points of copies."""
-    count = 1
-    for _ in range(k):
-        count *= N
-    return count
-
-
 def _need_few_points(N, k):
-    if _count_of(N, k) > _MOST_COPY_POINTS:
+    if raised(N, k) > _MOST_COPY_POINTS:
         raise TooMany(_MOST_COPY_POINTS)
 
 
@@ -36,16 +30,8 @@ def _need_truths(truths):
 
 
 def _need_copy_test(test, N, k):
-    if not is_signs(test, _count_of(N, k)):
+    if not is_signs(test, raised(N, k)):
         raise InvalidTruth("not a sign for each point of copies")
-
-
-def copies_of(truths):
-    """The product of the truths' signs at each point of copies, for truths that are known to be right."""
-    signs = (1,)
-    for truth in truths:
-        signs = tuple([sign * told for sign in signs for told in truth])
-    return signs
 
 
 def copies(truths):
@@ -67,19 +53,6 @@ def copies_sum(truths, test):
     return dot(copies_of(truths), test)
 
 
-def lines_of(N, k, test):
-    """The ascending tuple of the unlike lines, for a test that is known to be right."""
-    found, step = {}, 1
-    for _ in range(k):
-        for start in range(len(test)):
-            if start // step % N == 0:
-                line = test[start:start + N * step:step]
-                found[line] = True
-                found[tuple([-sign for sign in line])] = True
-        step *= N
-    return tuple(sorted(found))
-
-
 def _few_lines(N, k, test):
     """The lines, if neither the points nor they are too many."""
     _need_few_points(N, k)
@@ -95,14 +68,6 @@ def lines(N, k, test):
     need_number(k, 1, MOST_COPIES)
     _need_copy_test(test, N, k)
     return _few_lines(N, k, test)
-
-
-def bound_of(d, e, k):
-    """(1 - d) ** k + e (1 - (1 - d) ** k), for what is known to be right."""
-    off = (1, 1)
-    for _ in range(k):
-        off = by(off, minus((1, 1), d))
-    return plus(off, by(e, minus((1, 1), off)))
 
 
 def copies_bound(d, e, k):

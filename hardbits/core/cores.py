@@ -3,8 +3,8 @@
 from hardbits.base.checks import need_fraction_between, need_measure, need_mix
 from hardbits.base.exact import by, dot, lowest_row, ordered, reduced
 from hardbits.base.kinds import is_answer, is_lowest_pair, is_mix, is_weights
-from hardbits.core.edges import core_or_mix, edge_of, is_core_of, is_mix_above, least_margin_sum, margins_of
-from hardbits.core.edges import products, size_of, sums_of
+from hardbits.base.margins import is_core_of, is_mix_above, least_margin_sum, margins_of, products, size_of, sums_of
+from hardbits.core.edges import core_or_mix, edge_of
 from hardbits.core.needs import need_for_core, need_for_share, need_little_work, need_truth_and_family
 from hardbits.game.programs import Program
 from hardbits.points.truths import MOST_POINTS
@@ -70,7 +70,7 @@ def is_edge_answer(f, family, d, value):
     _, v, w, y = value
     if not is_lowest_pair(v) or not is_core_of(f, family, d, v, w) or not is_mix(y, len(family)):
         return False
-    return least_margin_sum(f, family, d, y) == by(v, size_of(f, d))
+    return least_margin_sum(f, family, d, y) == by(v, size_of(len(f), d))
 
 
 def _need_for_edge(f, family, e):
@@ -121,7 +121,7 @@ def _is_greatest_share(f, family, e, value):
     _, d, w, u = value
     if not is_lowest_pair(d) or not is_core_of(f, family, d, e, w) or not is_weights(u, len(family)):
         return False
-    return d[0] > 0 and _barred_size(f, family, e, u) == size_of(f, d)
+    return d[0] > 0 and _barred_size(f, family, e, u) == size_of(len(f), d)
 
 
 def is_share_answer(f, family, e, value):

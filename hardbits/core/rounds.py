@@ -1,18 +1,12 @@
 """Stage 6: rounds that take good tests until a vote or a core is there."""
 
-from hardbits.base.checks import need_fraction, need_fraction_between, need_share
+from hardbits.base.checks import need_fraction_between, need_share
 from hardbits.base.exact import dot, lowest_row, reduced
 from hardbits.base.kinds import is_answer, is_indices, is_row_within, is_tuple_of
 from hardbits.core.needs import need_for_core, need_truth_and_family
-from hardbits.errors import InvalidFraction, InvalidOperation, TooMany
+from hardbits.errors import InvalidOperation, TooMany
 
 _MOST_TAKEN = 4096
-
-
-def _need_slack(c):
-    need_fraction(c)
-    if not 0 < c[0] <= c[1]:
-        raise InvalidFraction("a slack is above 0, at most 1")
 
 
 def _need_taken(taken, family):
@@ -22,7 +16,7 @@ def _need_taken(taken, family):
 
 def _need_for_run(truth, family, d, e, c):
     need_for_core(truth, family, d, e)
-    _need_slack(c)
+    need_share(c)
 
 
 def _need_for_round(truth, family, taken, d, e, c):
@@ -30,7 +24,7 @@ def _need_for_round(truth, family, taken, d, e, c):
     _need_taken(taken, family)
     need_share(d)
     need_fraction_between(e, 0, 1)
-    _need_slack(c)
+    need_share(c)
 
 
 def _most_rounds(d, c):
@@ -40,7 +34,7 @@ def _most_rounds(d, c):
 def most_rounds(d, c):
     """The greatest integer below 4 / (c c d d)."""
     need_share(d)
-    _need_slack(c)
+    need_share(c)
     return _most_rounds(d, c)
 
 

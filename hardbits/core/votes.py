@@ -6,8 +6,9 @@ from math import comb
 from hardbits.base.checks import need_mix, need_number, need_truth
 from hardbits.base.exact import by, dot, lowest_row, ordered, reduced
 from hardbits.base.kinds import is_answer, is_family_anywhere, is_mix, is_row_within
+from hardbits.base.margins import is_core_of, size_of, sums_of
 from hardbits.base.sums import least_total
-from hardbits.core.edges import core_or_mix, edge_of, is_core_of, size_of, sums_of
+from hardbits.core.edges import core_or_mix, edge_of
 from hardbits.core.needs import need_for_core, need_for_share, need_little_work
 from hardbits.errors import InvalidFamily, InvalidRow, TooMany
 from hardbits.points.truths import MOST_POINTS
@@ -67,7 +68,7 @@ def _is_vote(truth, family, d, value):
     if not is_mix(value, len(family)):
         return False
     wrong = wrong_points_of(truth, vote_row_of(family, value))
-    return ordered((len(wrong), 1), size_of(truth, d)) < 0
+    return ordered((len(wrong), 1), size_of(len(truth), d)) < 0
 
 
 def is_vote_answer(truth, family, d, value):
@@ -90,7 +91,7 @@ def _barring(truth, family, d, e, lot):
     if ordered(v, e) > 0:
         return 0
     bottom, sums = sums_of(truth, family, w)
-    most = by(e, size_of(truth, d))
+    most = by(e, size_of(len(truth), d))
     return _mask_of([index for index, number in enumerate(sums) if ordered((number, bottom), most) <= 0])
 
 
@@ -146,7 +147,7 @@ def _all_voices(count, r):
 def _are_above(truth, family, d, e, lot):
     """Whether the least sum of truth times the sum of the voices' signs is above e r d N."""
     votes = [sum([family[index][point] for index in lot]) * sign for point, sign in enumerate(truth)]
-    size = size_of(truth, d)
+    size = size_of(len(truth), d)
     return ordered(least_total((1, votes), size), by((e[0] * len(lot), e[1]), size)) > 0
 
 

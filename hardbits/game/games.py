@@ -1,8 +1,9 @@
 """Stage 3: games of rows and columns."""
 
 from hardbits.base.checks import need_fraction, need_mix
-from hardbits.base.exact import dot, lowest_row, ordered, reduced
+from hardbits.base.exact import lowest_row, ordered, reduced
 from hardbits.base.kinds import is_answer, is_lot, is_lowest_pair, is_mix, is_short, is_tuple_of
+from hardbits.base.pays import beats, column_pays, greatest_pay, holds, is_game, least_pay, row_pays
 from hardbits.errors import InvalidOperation
 from hardbits.game.programs import Program
 
@@ -10,57 +11,25 @@ MOST_ROWS = 24
 MOST_COLUMNS = 32
 
 
-def _is_game_row(row, length):
-    return is_tuple_of(row, length) and all(is_short(number) for number in row)
-
-
-def _is_game(table):
-    """Whether the value is a game."""
-    if not is_tuple_of(table, 2):
-        return False
-    bottom, rows = table
-    if not is_short(bottom) or bottom < 1 or not isinstance(rows, tuple) or not 1 <= len(rows) <= MOST_ROWS:
-        return False
-    if not isinstance(rows[0], tuple) or not 1 <= len(rows[0]) <= MOST_COLUMNS:
-        return False
-    return all(_is_game_row(row, len(rows[0])) for row in rows)
-
-
 def _need_game(table):
-    if not _is_game(table):
+    if not is_game(table) or not is_short(table[0]):
         raise InvalidOperation("not a game")
-
-
-def _columns(table):
-    rows = table[1]
-    return list(zip(*rows))
-
-
-def _pays(bottom, lines, mix):
-    """The row of the pays of a mix at lines of numbers, one number in each for each thing of the mix."""
-    return lowest_row(bottom * mix[0], [dot(mix[1], line) for line in lines])
-
-
-def _row_pays(table, x):
-    return _pays(table[0], _columns(table), x)
-
-
-def _column_pays(table, y):
-    return _pays(table[0], table[1], y)
+    if not all(is_short(number) for row in table[1] for number in row):
+        raise InvalidOperation("not a game of integers of nine digits at most")
 
 
 def row_pay(table, x):
     """The row of the pays of a mix of rows at all columns."""
     _need_game(table)
     need_mix(x, len(table[1]))
-    return _row_pays(table, x)
+    return row_pays(table, x)
 
 
 def column_pay(table, y):
     """The row of the pays of a mix of columns at all rows."""
     _need_game(table)
     need_mix(y, len(table[1][0]))
-    return _column_pays(table, y)
+    return column_pays(table, y)
 
 
 def _mix_of(numbers):
@@ -94,19 +63,11 @@ def worth_answer(table):
     return ("worth", v, x, y)
 
 
-def _lowest_pay(row):
-    return reduced(min(row[1]), row[0])
-
-
-def _highest_pay(row):
-    return reduced(max(row[1]), row[0])
-
-
 def _are_best(table, v, x, y):
     """Whether x pays at least v at each column, and y at most v at each row: so v is the worth."""
     if not is_mix(x, len(table[1])) or not is_mix(y, len(table[1][0])):
         return False
-    return ordered(_lowest_pay(_row_pays(table, x)), v) >= 0 and ordered(_highest_pay(_column_pays(table, y)), v) <= 0
+    return ordered(least_pay(table, x), v) >= 0 and ordered(greatest_pay(table, y), v) <= 0
 
 
 def is_worth_answer(table, value):
@@ -122,22 +83,27 @@ def _need_game_and_bound(table, v):
     need_fraction(v)
 
 
-def bound_answer(table, v):
-    """A mix of rows with pays of at least v, or a mix of columns with pays below v."""
-    _need_game_and_bound(table, v)
+def rows_or_columns(table, v):
+    """A mix of rows with pays of at least v, or a mix of columns with pays below v, for what is known to be right."""
     most, x, y = _played(table)[:3]
     if ordered(most, v) >= 0:
         return ("rows", x)
     return ("columns", y)
 
 
+def bound_answer(table, v):
+    """A mix of rows with pays of at least v, or a mix of columns with pays below v."""
+    _need_game_and_bound(table, v)
+    return rows_or_columns(table, v)
+
+
 def is_bound_answer(table, v, value):
     """Whether the value is such a mix of rows, or of columns."""
     _need_game_and_bound(table, v)
-    if is_answer(value, "rows", 2) and is_mix(value[1], len(table[1])):
-        return ordered(_lowest_pay(_row_pays(table, value[1])), v) >= 0
-    if is_answer(value, "columns", 2) and is_mix(value[1], len(table[1][0])):
-        return ordered(_highest_pay(_column_pays(table, value[1])), v) < 0
+    if is_answer(value, "rows", 2):
+        return holds(table, v, value[1])
+    if is_answer(value, "columns", 2):
+        return beats(table, v, value[1])
     return False
 
 
@@ -168,7 +134,7 @@ def is_small_answer(table, value):
         return False
     if not is_mix(x, len(table[1])):
         return False
-    v = _lowest_pay(_row_pays(table, x))
+    v = least_pay(table, x)
     if not _are_best(table, v, x, y) or not _is_nought_outside(x, rows) or not _is_nought_outside(y, columns):
         return False
-    return _pays_just(_row_pays(table, x), columns, v) and _pays_just(_column_pays(table, y), rows, v)
+    return _pays_just(row_pays(table, x), columns, v) and _pays_just(column_pays(table, y), rows, v)

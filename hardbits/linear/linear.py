@@ -1,39 +1,13 @@
 """Stage 7: linear truths, and the rows that go with them."""
 
 from hardbits.base.checks import need_share, need_word
-from hardbits.base.codes import log_of, number_of, parity, sign_of, spelled
+from hardbits.base.codes import log_of, number_of, spelled
 from hardbits.base.exact import reduced
 from hardbits.base.kinds import is_row_within, is_truth_within, is_word
+from hardbits.base.leading import linear_signs, signed_sums, strings_above
 from hardbits.errors import InvalidRow, InvalidTruth, InvalidWord
 
 MOST_STRING = 5
-
-
-def linear_signs(string):
-    """The linear truth of a word that is known to be one."""
-    mask = number_of(string)
-    return tuple([sign_of(parity(point & mask)) for point in range(1 << len(string))])
-
-
-def signed_sums(numbers):
-    """The sums of 2 ** n numbers with the signs of each linear truth, by the numbers of the strings."""
-    sums, step = list(numbers), 1
-    while step < len(sums):
-        # With each further bit a pair of sums becomes the sum and the difference.
-        turned = []
-        for index, number in enumerate(sums):
-            other = sums[index ^ step]
-            turned.append(other - number if index & step else number + other)
-        sums, step = turned, 2 * step
-    return sums
-
-
-def strings_above(row, e):
-    """The ascending tuple of the strings at which the row's sum has an amount above e N."""
-    bottom, numbers = row
-    length, least = log_of(len(numbers)), e[0] * len(numbers) * bottom
-    sums = signed_sums(numbers)
-    return tuple(sorted([spelled(at, length) for at, told in enumerate(sums) if abs(told) * e[1] > least]))
 
 
 def sign_row(truth):

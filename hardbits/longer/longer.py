@@ -4,8 +4,8 @@ from hardbits.base.checks import need_fraction_between, need_number, need_share,
 from hardbits.base.codes import bit_of, log_of, number_of, parity, spelled
 from hardbits.base.exact import amount, minus, ordered, reduced
 from hardbits.base.kinds import is_answer, is_lowest_pair, is_places, is_signs, is_word
+from hardbits.base.leading import strings_above
 from hardbits.errors import InvalidFraction, InvalidMaps, InvalidTruth, InvalidWord
-from hardbits.linear.linear import strings_above
 
 _MOST_SEED = 6
 _MOST_TOLD = 8

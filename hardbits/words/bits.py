@@ -1,12 +1,14 @@
 """Stage 10: bits of a truth, read by a design at a seed, and predictors of them."""
 
 from hardbits.base.checks import need_design, need_number, need_share, need_table, need_word
-from hardbits.base.codes import bit_of, log_of, number_of, sign_of, spelled
+from hardbits.base.codes import log_of, spelled
 from hardbits.base.exact import dot, lowest_row
-from hardbits.base.kinds import is_answer, is_bit, is_index, is_lowest_pair, is_truth_within, is_tuple_of, is_word
+from hardbits.base.kinds import is_answer, is_lowest_pair, is_truth_within
+from hardbits.base.reading import bits_at, counted_bits, excess_of, is_predictor_of, is_within, row_of_predictor
+from hardbits.base.reading import row_of_tables, tables_of
 from hardbits.errors import InvalidAdvice, InvalidDesign, InvalidTruth, TooMany
 from hardbits.words.designs import MOST_PLACES, MOST_TUPLES
-from hardbits.words.draws import excess_of, made_of
+from hardbits.words.draws import made_of
 
 _MOST_LETTERS = 6
 _MOST_PREDICTORS = 4096
@@ -27,28 +29,11 @@ def _need_truth_and_design(truth, l, design):
         raise InvalidDesign("the tuples have not as many places as the points have bits")
 
 
-def _read(seed, places):
-    """The number of the word that a tuple of places reads in a seed."""
-    return sum([seed[place] << index for index, place in enumerate(places)])
-
-
-def _bits_at(truth, design, seed):
-    return tuple([bit_of(truth[_read(seed, places)]) for places in design])
-
-
 def bits_of(truth, l, design, seed):
     """The bits of the truth at a seed."""
     _need_truth_and_design(truth, l, design)
     need_word(seed, l)
-    return _bits_at(truth, design, seed)
-
-
-def counted_bits(truth, l, design):
-    """The draw of the bits over all seeds, in any terms."""
-    counts = [0] * (1 << len(design))
-    for number in range(1 << l):
-        counts[number_of(_bits_at(truth, design, spelled(number, l)))] += 1
-    return (1 << l, tuple(counts))
+    return bits_at(truth, design, seed)
 
 
 def drawn_bits(truth, l, design):
@@ -69,82 +54,24 @@ def bits_excess(truth, l, design, test):
     return excess_of(counted_bits(truth, l, design), test)
 
 
-def _filled(l, places, others):
-    """The seed with these other bits where the places are not, and noughts at the places."""
-    seed = [0] * l
-    outside = [place for place in range(l) if place not in places]
-    for place, bit in zip(outside, others):
-        seed[place] = bit
-    return seed
-
-
-def _table_of(truth, seed, common, elder):
-    """The bits that the elder tuple reads for all words at the common places, the seed else as it is."""
-    found = []
-    for number in range(1 << len(common)):
-        tried = list(seed)
-        for index, place in enumerate(common):
-            tried[place] = number >> index & 1
-        found.append(bit_of(truth[_read(tried, elder)]))
-    return tuple(found)
-
-
-def _tables_of(truth, l, design, i, others):
-    seed = _filled(l, design[i], others)
-    tables = []
-    for elder in design[:i]:
-        common = [place for place in design[i] if place in elder]
-        tables.append(_table_of(truth, seed, common, elder))
-    return tuple(tables)
-
-
 def elder_tables(truth, l, design, i, others):
     """For each elder tuple the table of its bit, by the bits at the places that both have in common."""
     _need_truth_and_design(truth, l, design)
     need_number(i, 0, len(design) - 1)
     need_word(others, l - len(design[0]))
-    return _tables_of(truth, l, design, i, others)
+    return tables_of(truth, l, design, i, others)
 
 
 def is_predictor(l, design, value):
     """Whether the value is a predictor for the design and a test of as many bits as it has tuples."""
     need_number(l, 1, MOST_PLACES)
     need_design(design, l)
-    if not is_tuple_of(value, 4):
-        return False
-    i, others, last, r = value
-    if not is_index(i, len(design)) or not is_word(others, l - len(design[0])):
-        return False
-    return is_word(last, len(design) - i - 1) and is_bit(r)
-
-
-def _elder_numbers(design, i, tables):
-    """For each point the number of the word of the elder bits that the tables tell there."""
-    places = design[i]
-    numbers = [0] * (1 << len(places))
-    for j, table in enumerate(tables):
-        common = [index for index, place in enumerate(places) if place in design[j]]
-        for point in range(len(numbers)):
-            at = sum([(point >> index & 1) << k for k, index in enumerate(common)])
-            numbers[point] += table[at] << j
-    return numbers
-
-
-def row_of_tables(design, test, i, tables, last, r):
-    """The row of signs that a predictor, or an advice, with these tables of the elder bits has."""
-    behind = (r << i) + (number_of(last) << (i + 1))
-    numbers = _elder_numbers(design, i, tables)
-    return tuple([sign_of(r if test[number + behind] else 1 - r) for number in numbers])
-
-
-def row_of_predictor(truth, l, design, test, predictor):
-    i, others, last, r = predictor
-    return row_of_tables(design, test, i, _tables_of(truth, l, design, i, others), last, r)
+    return is_predictor_of(l, design, value)
 
 
 def _need_predictor(truth, l, design, test, predictor):
     _need_truth_design_and_test(truth, l, design, test)
-    if not is_predictor(l, design, predictor):
+    if not is_predictor_of(l, design, predictor):
         raise InvalidAdvice("not a predictor for this design and test")
 
 
@@ -163,11 +90,6 @@ def predictor_sum(truth, l, design, test, predictor):
 def _need_all_for_answer(truth, l, design, test, e):
     _need_truth_design_and_test(truth, l, design, test)
     need_share(e)
-
-
-def is_within(number, m, e):
-    """Whether the fraction has an amount of at most m e / 2."""
-    return 2 * abs(number[0]) * e[1] <= m * e[0] * number[1]
 
 
 def _is_followed(truth, l, design, test, e, predictor):
@@ -204,7 +126,7 @@ def is_bits_answer(truth, l, design, test, e, value):
     if is_answer(value, "within", 2):
         found = excess_of(counted_bits(truth, l, design), test)
         return is_lowest_pair(value[1]) and value[1] == found and is_within(found, len(design), e)
-    if is_answer(value, "predictor", 2) and is_predictor(l, design, value[1]):
+    if is_answer(value, "predictor", 2) and is_predictor_of(l, design, value[1]):
         return _is_followed(truth, l, design, test, e, value[1])
     return False
 
@@ -235,7 +157,7 @@ def rows_of(truth, l, design, test):
     rows = {}
     for i in range(m):
         for number in range(1 << free):
-            tables = _tables_of(truth, l, design, i, spelled(number, free))
+            tables = tables_of(truth, l, design, i, spelled(number, free))
             for last, r in last_and_bits(m - i - 1):
                 rows[row_of_tables(design, test, i, tables, last, r)] = True
     return tuple(sorted(rows))

@@ -4,6 +4,7 @@ from itertools import combinations
 from math import comb
 
 from hardbits.base.checks import need_design, need_number
+from hardbits.base.exact import raised
 from hardbits.base.kinds import is_answer, is_design_below, is_indices, is_integer, is_lot, is_tuple_of
 from hardbits.errors import InvalidDesign, InvalidNumber, TooMany
 
@@ -73,10 +74,7 @@ def line_lots(q, n, a, m):
         raise InvalidNumber(q)
     need_number(n, 1, min(6, q))
     need_number(a, 0, n - 1)
-    count = 1
-    for _ in range(a + 1):
-        count *= q
-    need_number(m, 1, min(MOST_TUPLES, count))
+    need_number(m, 1, min(MOST_TUPLES, raised(q, a + 1)))
     if n * q > MOST_PLACES:
         raise TooMany(MOST_PLACES)
     lines = [_values_at(q, n, a, number) for number in range(m)]

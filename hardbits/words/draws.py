@@ -2,9 +2,10 @@
 
 from hardbits.base.checks import need_draw, need_fraction_between, need_number, need_table, need_word
 from hardbits.base.codes import number_of, parity, spelled
-from hardbits.base.exact import amount, dot, lowest_row, minus, ordered, reduced
-from hardbits.base.kinds import is_answer, is_bit, is_index, is_integer, is_lot, is_mix_within, is_short
-from hardbits.base.kinds import is_tuple_of, is_word
+from hardbits.base.couplings import gaps_of, is_coupling, is_parting
+from hardbits.base.exact import amount, lowest_row, minus, ordered, reduced
+from hardbits.base.kinds import is_answer, is_bit, is_index, is_lot, is_mix_within, is_short, is_tuple_of, is_word
+from hardbits.base.reading import chance_of, excess_of
 from hardbits.errors import InvalidDraw, InvalidOperation, InvalidWord
 
 _MOST_BITS = 6
@@ -49,15 +50,6 @@ def even_draw(m):
     return (1 << m, (1,) * (1 << m))
 
 
-def _chance(draw, test):
-    return reduced(dot(draw[1], test), draw[0])
-
-
-def excess_of(draw, test):
-    """The excess of a test for a draw, of which both are known to be right."""
-    return minus(_chance(draw, test), (sum(test), len(test)))
-
-
 def excess(m, draw, test):
     """The chance of the test under the draw, less that under the even one."""
     _need_bits_and_draw(m, draw)
@@ -90,7 +82,7 @@ def steps(m, draw, test):
     """The chances of the test under each hybrid from 1 on, less that under the one ahead of it."""
     _need_bits_and_draw(m, draw)
     need_table(test, m)
-    chances = [_chance(_hybrid_of(m, draw, length), test) for length in range(m + 1)]
+    chances = [chance_of(_hybrid_of(m, draw, length), test) for length in range(m + 1)]
     return tuple([minus(chances[i + 1], chances[i]) for i in range(m)])
 
 
@@ -209,13 +201,8 @@ def _need_alike(one, other):
         raise InvalidOperation("the draws have unlike numbers of points")
 
 
-def _gaps(one, other):
-    """One draw less the other, as a pair of a bottom and integers."""
-    return (one[0] * other[0], [left * other[0] - right * one[0] for left, right in zip(one[1], other[1])])
-
-
 def _distance_of(one, other):
-    bottom, gaps = _gaps(one, other)
+    bottom, gaps = gaps_of(one, other)
     return reduced(sum([abs(gap) for gap in gaps]), 2 * bottom)
 
 
@@ -243,7 +230,7 @@ def _led_across(gaps):
 
 def _coupled(one, other):
     """A coupling of both draws with as little weight for unlike points as can be."""
-    bottom, gaps = _gaps(one, other)
+    bottom, gaps = gaps_of(one, other)
     weights = _led_across(gaps)
     for point, number in enumerate(one[1]):
         stays = number * other[0] - max(0, gaps[point])
@@ -259,58 +246,27 @@ def _need_draws_and_bound(one, other, s):
     _need_alike(one, other)
 
 
-def coupling_answer(one, other, s):
-    """A coupling with at most s for unlike points, or a lot that parts the draws by more than s."""
-    _need_draws_and_bound(one, other, s)
+def coupling_or_test(one, other, s):
+    """A coupling with at most s for unlike points, or a lot that parts the draws by more, for right values."""
     if ordered(_distance_of(one, other), s) <= 0:
         return ("coupling", _coupled(one, other))
-    gaps = _gaps(one, other)[1]
+    gaps = gaps_of(one, other)[1]
     return ("test", tuple([point for point, gap in enumerate(gaps) if gap > 0]))
 
 
-def _is_pair_weight(pair, weight, points):
-    if not is_tuple_of(pair, 2) or not is_index(pair[0], points) or not is_index(pair[1], points):
-        return False
-    return is_integer(weight) and weight >= 1
-
-
-def _is_pair_weights(value, points):
-    """Whether the value is a bottom and a dict from pairs of points to integers from 1 on."""
-    if not is_tuple_of(value, 2):
-        return False
-    bottom, weights = value
-    if not is_integer(bottom) or bottom < 1 or not isinstance(weights, dict):
-        return False
-    return all(_is_pair_weight(pair, weight, points) for pair, weight in weights.items())
-
-
-def _is_coupling(one, other, s, value):
-    points = len(one[1])
-    if not _is_pair_weights(value, points):
-        return False
-    bottom, weights = value
-    firsts, seconds, unlike = [0] * points, [0] * points, 0
-    for (point, goal), weight in weights.items():
-        firsts[point] += weight
-        seconds[goal] += weight
-        if point != goal:
-            unlike += weight
-    for point in range(points):
-        if firsts[point] * one[0] != one[1][point] * bottom:
-            return False
-        if seconds[point] * other[0] != other[1][point] * bottom:
-            return False
-    return unlike * s[1] <= s[0] * bottom
+def coupling_answer(one, other, s):
+    """A coupling with at most s for unlike points, or a lot that parts the draws by more than s."""
+    _need_draws_and_bound(one, other, s)
+    return coupling_or_test(one, other, s)
 
 
 def is_coupling_answer(one, other, s, value):
     """Whether the value is such a coupling, or such a lot."""
     _need_draws_and_bound(one, other, s)
     if is_answer(value, "coupling", 2):
-        return _is_coupling(one, other, s, value[1])
-    if is_answer(value, "test", 2) and is_lot(value[1], len(one[1])):
-        bottom, gaps = _gaps(one, other)
-        return sum([gaps[point] for point in value[1]]) * s[1] > s[0] * bottom
+        return is_coupling(one, other, s, value[1])
+    if is_answer(value, "test", 2):
+        return is_parting(one, other, s, value[1])
     return False
 
 

@@ -2,13 +2,15 @@
 
 from hardbits.base.checks import need_draw, need_fraction, need_fraction_between, need_share
 from hardbits.base.codes import spelled
-from hardbits.base.exact import amount, dot, lowest_row, ordered, plus, reduced
-from hardbits.base.kinds import is_answer, is_lowest_pair, is_mix, is_row_within
-from hardbits.base.sums import least_fill
+from hardbits.base.exact import amount, lowest_row, ordered, plus, reduced
+from hardbits.base.kinds import is_answer, is_lowest_pair, is_row_within
+from hardbits.base.leading import excesses_of, list_of
+from hardbits.base.reading import common_indices
+from hardbits.base.worst import excess_of_source, is_below, is_top, worst_of
 from hardbits.errors import InvalidFraction, TooMany
 from hardbits.words.bits import last_and_bits
-from hardbits.words.strings import advices_number_of, common_indices, list_of, need_design_and_test
-from hardbits.words.strings import need_string_design, rows_number, string_excess_of, tables_size
+from hardbits.words.strings import advices_number_of, need_design_and_test, need_string_design, rows_number
+from hardbits.words.strings import tables_size
 
 _MOST_ROWS = 4096
 
@@ -16,23 +18,14 @@ _MOST_ROWS = 4096
 def _need_top(top, length):
     """Raises unless the top is from 1 / 2 ** length to 1."""
     need_fraction(top)
-    if not top[1] <= top[0] << length or top[0] > top[1]:
+    if not is_top(top, length):
         raise InvalidFraction("not a fraction from 1 / 2 ** n to 1")
-
-
-def _excesses(l, design, test):
-    """The row of the excesses of all strings, by their numbers."""
-    length = len(design[0])
-    found = [string_excess_of(l, design, test, spelled(number, length)) for number in range(1 << length)]
-    # 2 ** l seeds and 2 ** m words: all bottoms divide this one.
-    bottom = 1 << (l + len(design))
-    return lowest_row(bottom, [top * (bottom // under) for top, under in found])
 
 
 def excess_row(l, design, test):
     """The row of the excesses of all strings, by their numbers, in least terms."""
     need_design_and_test(l, design, test)
-    return _excesses(l, design, test)
+    return excesses_of(l, design, test)
 
 
 def _all_tables(design, i):
@@ -63,28 +56,11 @@ def tried(l, design, test, e):
     return tuple(sorted(found))
 
 
-def _excess_of_source(row, source):
-    return reduced(dot(row[1], source[1]), row[0] * source[0])
-
-
 def source_excess(l, design, test, source):
     """The sum of the excesses of all strings, each times its weight."""
     need_design_and_test(l, design, test)
     need_draw(source, 1 << len(design[0]))
-    return _excess_of_source(_excesses(l, design, test), source)
-
-
-def _least_source(numbers, top):
-    """The source below top with the least excess."""
-    # A source below top is top times weights from 0 to 1 that add up to 1 / top.
-    return lowest_row(top[1], least_fill(numbers, (top[1], top[0]))[1])
-
-
-def _worst(row, top):
-    """The greatest amount of an excess of a source below top, and such a source."""
-    sources = [_least_source(row[1], top), _least_source([-number for number in row[1]], top)]
-    least, greatest = [amount(_excess_of_source(row, source)) for source in sources]
-    return (least, sources[0]) if ordered(least, greatest) > 0 else (greatest, sources[1])
+    return excess_of_source(excesses_of(l, design, test), source)
 
 
 def _need_all_for_top(l, design, test, top):
@@ -92,15 +68,10 @@ def _need_all_for_top(l, design, test, top):
     _need_top(top, len(design[0]))
 
 
-def _is_below(value, count, top):
-    """Whether the value is a source of so many strings with no weight above top."""
-    return is_mix(value, count) and max(value[1]) * top[1] <= top[0] * value[0]
-
-
 def worst_source(l, design, test, top):
     """The greatest amount of an excess of a source below top, and any such source."""
     _need_all_for_top(l, design, test, top)
-    number, source = _worst(_excesses(l, design, test), top)
+    number, source = worst_of(excesses_of(l, design, test), top)
     return ("worst", number, source)
 
 
@@ -109,10 +80,10 @@ def is_worst_source(l, design, test, top, value):
     _need_all_for_top(l, design, test, top)
     if not is_answer(value, "worst", 3) or not is_lowest_pair(value[1]):
         return False
-    row = _excesses(l, design, test)
-    if value[1] != _worst(row, top)[0] or not _is_below(value[2], len(row[1]), top):
+    row = excesses_of(l, design, test)
+    if value[1] != worst_of(row, top)[0] or not is_below(value[2], len(row[1]), top):
         return False
-    return amount(_excess_of_source(row, value[2])) == value[1]
+    return amount(excess_of_source(row, value[2])) == value[1]
 
 
 def _need_all_for_bound(l, design, test, top, bound):
@@ -123,8 +94,8 @@ def _need_all_for_bound(l, design, test, top, bound):
 def source_answer(l, design, test, top, bound):
     """The row of all excesses if each source below top is within the bound, or any source that is not."""
     _need_all_for_bound(l, design, test, top, bound)
-    row = _excesses(l, design, test)
-    number, source = _worst(row, top)
+    row = excesses_of(l, design, test)
+    number, source = worst_of(row, top)
     if ordered(number, bound) <= 0:
         return ("each", row)
     return ("source", source)
@@ -133,12 +104,12 @@ def source_answer(l, design, test, top, bound):
 def is_source_answer(l, design, test, top, bound, value):
     """Whether the value is that row, in any terms, or such a source."""
     _need_all_for_bound(l, design, test, top, bound)
-    row = _excesses(l, design, test)
+    row = excesses_of(l, design, test)
     count = len(row[1])
     if is_answer(value, "each", 2) and is_row_within(value[1], count, count):
-        return lowest_row(value[1][0], value[1][1]) == row and ordered(_worst(row, top)[0], bound) <= 0
-    if is_answer(value, "source", 2) and _is_below(value[1], count, top):
-        return ordered(amount(_excess_of_source(row, value[1])), bound) > 0
+        return lowest_row(value[1][0], value[1][1]) == row and ordered(worst_of(row, top)[0], bound) <= 0
+    if is_answer(value, "source", 2) and is_below(value[1], count, top):
+        return ordered(amount(excess_of_source(row, value[1])), bound) > 0
     return False
 
 

@@ -3,14 +3,13 @@
 from hardbits.base.checks import need_design, need_number, need_share, need_table, need_word
 from hardbits.base.codes import number_of, parity, spelled
 from hardbits.base.exact import dot
-from hardbits.base.kinds import is_answer, is_bit, is_index, is_lowest_pair, is_tuple_of, is_word
+from hardbits.base.kinds import is_answer, is_lowest_pair
+from hardbits.base.leading import counted_string, is_advice_of, led_to, linear_signs, list_of
+from hardbits.base.reading import common_indices, excess_of, is_within, row_of_tables
 from hardbits.errors import InvalidAdvice, InvalidDesign
-from hardbits.linear.linear import MOST_STRING, linear_signs, strings_above
-from hardbits.words.bits import is_within, last_and_bits, row_of_tables
+from hardbits.linear.linear import MOST_STRING
+from hardbits.words.bits import last_and_bits
 from hardbits.words.designs import MOST_PLACES
-from hardbits.words.draws import excess_of
-
-_MOST_INDEX = 31
 
 
 def need_string_design(l, design):
@@ -27,22 +26,9 @@ def need_design_and_test(l, design, test):
     need_table(test, len(design))
 
 
-def _counted(l, design, string):
-    """The draw of the bits of a string over all seeds, in any terms."""
-    counts = [1] + [0] * ((1 << len(design)) - 1)
-    turning = [0] * l
-    for index, places in enumerate(design):
-        for place, bit in zip(places, string):
-            turning[place] += bit << index
-    # A linear truth is a sum: a seed's bit, if it is 1, turns the same bits whatever else the seed is.
-    for turned in turning:
-        counts = [count + counts[word ^ turned] for word, count in enumerate(counts)]
-    return (1 << l, tuple(counts))
-
-
 def string_excess_of(l, design, test, string):
     """The excess of the bits of a string, for what is known to be right."""
-    return excess_of(_counted(l, design, string), test)
+    return excess_of(counted_string(l, design, string), test)
 
 
 def string_excess(l, design, test, string):
@@ -52,57 +38,29 @@ def string_excess(l, design, test, string):
     return string_excess_of(l, design, test, string)
 
 
-def common_indices(design, i, j):
-    """The ascending list of the indices of tuple i whose places stand in tuple j."""
-    return [index for index, place in enumerate(design[i]) if place in design[j]]
-
-
-def _are_tables(design, i, tables):
-    if not is_tuple_of(tables, i):
-        return False
-    return all(is_word(table, 1 << len(common_indices(design, i, j))) for j, table in enumerate(tables))
-
-
 def is_advice(l, design, value):
     """Whether the value is an advice for the design and a test of as many bits as it has tuples."""
     need_string_design(l, design)
-    if not is_tuple_of(value, 5):
-        return False
-    i, tables, last, r, index = value
-    if not is_index(i, len(design)) or not _are_tables(design, i, tables):
-        return False
-    return is_word(last, len(design) - i - 1) and is_bit(r) and is_index(index, _MOST_INDEX + 1)
+    return is_advice_of(design, value)
 
 
-def _need_advice(l, design, advice):
-    if not is_advice(l, design, advice):
+def _need_advice(design, advice):
+    if not is_advice_of(design, advice):
         raise InvalidAdvice("not an advice for this design")
 
 
 def advised_row(l, design, test, advice):
     """The row of the advice, a sign for each point."""
     need_design_and_test(l, design, test)
-    _need_advice(l, design, advice)
+    _need_advice(design, advice)
     i, tables, last, r, _ = advice
     return row_of_tables(design, test, i, tables, last, r)
-
-
-def list_of(design, test, e, i, tables, last, r):
-    """The ascending tuple of the strings with a sum of an amount above e N with the row of these."""
-    return strings_above((1, row_of_tables(design, test, i, tables, last, r)), e)
-
-
-def _led_to(design, test, e, advice):
-    """The string to which the advice leads, or None."""
-    i, tables, last, r, index = advice
-    found = list_of(design, test, e, i, tables, last, r)
-    return found[index] if index < len(found) else None
 
 
 def _need_all_for_list(l, design, test, e, advice):
     need_design_and_test(l, design, test)
     need_share(e)
-    _need_advice(l, design, advice)
+    _need_advice(design, advice)
 
 
 def advised_list(l, design, test, e, advice):
@@ -115,7 +73,7 @@ def advised_list(l, design, test, e, advice):
 def led_back(l, design, test, e, advice):
     """The string to which the advice leads, or None."""
     _need_all_for_list(l, design, test, e, advice)
-    return _led_to(design, test, e, advice)
+    return led_to(design, test, e, advice)
 
 
 def _need_all_for_string(l, design, test, e, string):
@@ -151,7 +109,7 @@ def _leading_from(design, test, e, string, i):
     return None
 
 
-def _leading(design, test, e, string):
+def leading_advice(design, test, e, string):
     """An advice that leads to the string, which is not within."""
     for i in range(len(design)):
         advice = _leading_from(design, test, e, string, i)
@@ -166,7 +124,7 @@ def string_answer(l, design, test, e, string):
     found = string_excess_of(l, design, test, string)
     if is_within(found, len(design), e):
         return ("within", found)
-    return ("advice", _leading(design, test, e, string))
+    return ("advice", leading_advice(design, test, e, string))
 
 
 def is_string_answer(l, design, test, e, string, value):
@@ -175,8 +133,8 @@ def is_string_answer(l, design, test, e, string, value):
     if is_answer(value, "within", 2):
         found = string_excess_of(l, design, test, string)
         return is_lowest_pair(value[1]) and value[1] == found and is_within(found, len(design), e)
-    if is_answer(value, "advice", 2) and is_advice(l, design, value[1]):
-        return _led_to(design, test, e, value[1]) == string
+    if is_answer(value, "advice", 2) and is_advice_of(design, value[1]):
+        return led_to(design, test, e, value[1]) == string
     return False
 
 

@@ -1,0 +1,1 @@
+"""Few draws that serve for all."""

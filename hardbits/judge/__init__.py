@@ -1,0 +1,1 @@
+"""Claims, the papers that show them, and a checker of these."""

@@ -1,0 +1,1 @@
+"""What is near: maps that seldom meet, dense models, and likenesses."""

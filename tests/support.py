@@ -31,7 +31,7 @@ JUNK = (None, True, False, 0, 1, -1, HUGE, -HUGE, LONG, "", "core", "mix", "rows
 BAD_NUMBERS = (None, True, False, "1", (1,), [1], {}, HUGE, -HUGE, -1, HardError("n"))
 BAD_FRACTIONS = (None, True, 1, "1/2", (), (1,), (1, 2, 3), [1, 2], (2, 4), (0, 2), (1, 0), (0, 0), (1, -2), (True, 2),
                  (1, True), (False, 1), ("1", 2), (1, None), ((1,), 2), (1, [2]), (10 ** 9, 1), (-10 ** 9, 1),
-                 (1, 10 ** 9), (HUGE, HUGE - 1), {}, HardError("f"))
+                 (1, 10 ** 9), (HUGE, HUGE - 1), (10 ** 9, 10 ** 9 + 1), (HUGE, HUGE + 1), {}, HardError("f"))
 BAD_ROWS = (None, 1, True, "row", (), (1,), (1, ()), (1, (1,), 1), [1, (1,)], (1, [1]), (1, 1), (0, (1,)), (-1, (1,)),
             (True, (1,)), ("1", (1,)), (None, (1,)), (1, (True,)), (1, (1, False)), (1, (None,)), (1, ((1,),)),
             ((), (1,)),

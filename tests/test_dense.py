@@ -158,6 +158,17 @@ class Models(Case):
                 if max(values(draw)) <= 1 / (Fraction(*d) * points):
                     self.assertEqual(v, (0, 1))
 
+    def test_draws_that_are_models_themselves(self):
+        # Where a draw is nowhere above 1 / (d N), it is a model for 0 itself, times d N.
+        draw = (4, (2, 1, 1, 0))
+        for d, w in (((1, 2), (4, (4, 2, 2, 0))), ((1, 4), (4, (2, 1, 1, 0))), ((1, 8), (8, (2, 1, 1, 0)))):
+            for family in (SIDES, ((1, 1, 1, 1),), SIDES + opposites(SIDES)):
+                self.assertIs(is_dense_answer(draw, family, d, (0, 1), ("model", w)), True)
+                self.assertEqual(nearness_answer(draw, family, d)[1], (0, 1))
+                self.assertEqual(dense_answer(draw, family, d, (0, 1))[0], "model")
+        self.assertNotEqual(nearness_answer(draw, SIDES, (2, 3))[1], (0, 1))
+        self.assertEqual(nearness_answer((4, (1, 1, 1, 1)), SIDES, (1, 1))[1], (0, 1))
+
     def test_how_nearness_goes(self):
         for draw, family in some_cases(12):
             shares = sorted(shares_for(len(draw[1])), key=lambda d: Fraction(*d))

@@ -344,6 +344,10 @@ class Shifts(Case):
         wrong = ((0, 1), (0, 0), (0, 4), (0, -1), (0, HUGE), (0,), (0, 3, 0), (0, (3,)))
         self.judged(is_cover, (2, (0, 1, 2), 2), ((0, 3), (3, 0), (1, 2)), tuple(value for value in wrong if value != (0, 1)) + ((LONG, 0),))
         self.judged(is_cover, (2, (0, 1), 2), ((0, 2), (1, 3), (3, 0)), wrong)
+        # Numbers of no words do not stand beside shifts that cover all.
+        for shift in (4, -1, True, None, HUGE):
+            self.assertIs(is_cover(2, (0, 1, 2, 3), 2, (0, shift)), False)
+        self.assertIs(is_cover(2, (0, 1, 2, 3), 2, (0, 3)), True)
 
     def test_errors(self):
         numbers, lots = (InvalidNumber, BAD_N), (InvalidOperation, BAD_LOT)
@@ -461,6 +465,9 @@ class Lots(Case):
         # A place that is below the number of places in one of both calls alone.
         self.fails(InvalidOperation, least_lots, (1, 1), ((2,),))
         self.assertEqual(least_lots((1, 1, 1), ((2,),)), ((2,),))
+        # There is at least one place, and one lot.
+        for weights, lots in (((), ((),)), ((1,), ()), ((), ())):
+            self.fails(InvalidOperation, least_lots, weights, lots)
 
 
 class NotTrue(Case):

@@ -19,7 +19,7 @@ from tests.test_truths import BAD_TRUTHS, some_truths
 INTEGER = r"(?:0|-?[1-9][0-9]{0,8})"
 BAD_TEXTS = (None, 1, True, ("1/2\n",), ["1/2\n"], b"1/2\n", {}, (), DEEP)
 # Signs that are put into right texts, or in the place of others.
-SIGNS = "019-+/: \n\r\taskx.,_"
+SIGNS = "019-+/: \n\r\taskxz.,_"
 LONGEST = 999999999
 BAD_DESIGN_L = BAD_NUMBERS + (0, 13)
 

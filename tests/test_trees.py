@@ -16,7 +16,7 @@ BAD_N = BAD_NUMBERS + (0, 4)
 BAD_T = BAD_NUMBERS + (0, 5)
 # Wrong doublings of words of one bit.
 BAD_DOUBLINGS = (None, 1, True, (), (0, 1), ((0, 1),), ((0, 1),) * 3, ((0, 1),) * 4, [(0, 1), (1, 0)], ([0, 1], (1, 0)), ((0, 1), (1,)), ((0, 1), (1, 0, 1)),
-                 ((0, 1), (1, 2)), ((0, 1), (1, -1)), ((0, 1), (1, True)), ((0, 1), (1, None)), ((0, 1), None), ((0, HUGE), (1, 0)), "01", {}, DEEP)
+                 ((0, 1), (2, 1)), ((-1, 1), (0, 1)), ((True, 1), (0, 1)), ((0, 1), (None, 1)), ((HUGE, 1), (0, 1)), ((0, 1), (1, 2)), ((0, 1), (1, -1)), ((0, 1), (1, True)), ((0, 1), (1, None)), ((0, 1), None), ((0, HUGE), (1, 0)), "01", {}, DEEP)
 
 
 def question(depth, x=0, end=0):
@@ -294,7 +294,7 @@ class Made(Case):
         deeper = (0, ((1, ((2, (0, 1)), 1)), (3, (1, 0))))
         levels, numbers = (InvalidNumber, BAD_NUMBERS + (2,)), (InvalidNumber, BAD_NUMBERS + (3,))
         others = (None, 1, True, (), (None,), (None, 1), (None, 1, 1, 1), [(0, 1), None, 1], ((0, 1), 1, None), ((0, 1), (0, 1), None), (None, (0, 1), 1), ((0, 1), None, (0, 1)),
-                  (1, None, 1), ([0, 1], None, 1), ((0,), None, 1), ((0, 1, 1), None, 1), ((0, 2), None, 1), ((0, -1), None, 1), ((0, True), None, 1), ((0, 1), None, 2),
+                  (1, None, 1), ((2, 1), None, 1), ((True, 1), None, 1), ((-1, 1), None, 1), ([0, 1], None, 1), ((0,), None, 1), ((0, 1, 1), None, 1), ((0, 2), None, 1), ((0, -1), None, 1), ((0, True), None, 1), ((0, 1), None, 2),
                   ((0, 1), None, -1), ((0, 1), None, True), ((0, 1), None, None), ((0, 1), 0, 1), ((0, 1), False, 1), ((0, HUGE), None, 1), ((0, 1), None, HUGE), "0", {}, DEEP)
         self.refuses(made_test, [1, TURN, 2, deeper, 1, 1, ((0, 1), None, 1)], bad + [levels, numbers, (InvalidOperation, others)])
         others = tuple(value for value in others if value != ((0, 1), (0, 1), None)) + (((0, 1), None, 1),)
@@ -374,7 +374,7 @@ class Steps(Case):
 
     def test_the_judge_takes_all_right_triples_and_no_others(self):
         counts = {True: 0, False: 0}
-        for n, doubling, t, asker in some_cases(32, ((1, 1, 2), (1, 2, 2), (2, 1, 1)), 1):
+        for n, doubling, t, asker in some_cases(32, ((1, 1, 2), (1, 2, 2), (1, 3, 2), (1, 2, 3), (2, 1, 1), (2, 3, 1), (2, 1, 2)), 1):
             q = most_questions(asker)
             if q == 0:
                 continue
@@ -408,6 +408,16 @@ class Steps(Case):
             self.assertEqual(pair_edge(1, doubling, made_test(1, doubling, 1, asker, 0, 0, (None,))), edge)
             self.assertIs(is_broken_by(1, doubling, 1, asker, (0, 0, (None,))), True)
             self.assertEqual(broken_by(1, doubling, 1, asker), (0, 0, (None,)))
+
+    def test_divided_by_questions_and_levels(self):
+        # Two questions, two levels: an edge of 3 / 4 divided by 4 is 3 / 16; one of 1 / 4 is 1 / 16, just the made test's.
+        wide = ((2, 0), (2, 3), (3, 2), (3, 0)), (2, ((1, (0, 1, 1, 1)), (2, (0, 0, 1, 0)), (0, (0, 0, 0, 1)), (2, (0, 1, 1, 0))))
+        just = ((2, 0), (3, 1), (1, 2), (3, 1)), (3, ((1, (0, 1, 0, 1)), (1, (0, 1, 0, 1)), (2, (1, 1, 0, 0)), (2, (0, 1, 1, 0))))
+        for (doubling, asker), least, edge in ((wide, Fraction(3, 16), Fraction(1, 4)), (just, Fraction(1, 16), Fraction(1, 16))):
+            self.assertEqual(abs(Fraction(*asker_edge(2, doubling, 2, asker))), 4 * least)
+            made = made_test(2, doubling, 2, asker, 0, 0, (None, 1))
+            self.assertEqual(abs(Fraction(*pair_edge(2, doubling, made))), edge)
+            self.assertIs(is_broken_by(2, doubling, 2, asker, (0, 0, (None, 1))), True)
 
     def test_errors(self):
         bad = [(InvalidNumber, BAD_N), (InvalidMaps, BAD_DOUBLINGS), (InvalidNumber, BAD_T), (InvalidOperation, BAD_ASKERS)]

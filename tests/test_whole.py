@@ -1,12 +1,15 @@
-"""[0.1] to [0.5] over the whole program: what holds for each function of the interface."""
+"""[0.1] to [0.5] and [0.15] over the whole program: what holds for each function of the interface."""
 
 import copy
 import importlib
 import random
 import unittest
 
+from hardbits.core.cores import core_answer, is_core_answer
 from hardbits.errors import HardError, InvalidNumber
 from hardbits.use.bench import Bench
+from hardbits.words.bits import bits_excess, predictor_sum
+from hardbits.words.strings import led_back, string_excess
 from tests.calls import all_calls
 from tests.support import Case, DEEP, DEEP_DICT, DEEP_LIST, HUGE, JUNK, LONG, nested
 from tests.test_form import INTERFACE
@@ -173,6 +176,26 @@ class Whole(Case):
                 self.assertIn(result == value, (True, False))
                 if isinstance(result, tuple):
                     self.assertIn(value in result, (True, False))
+
+
+class NotTrue(Case):
+    """[0.15]."""
+
+    def test_cores_need_not_be_lots_of_points(self):
+        f, family = (1, 1), ((1, -1), (-1, 1))
+        self.assertEqual(core_answer(f, family, (1, 2), (0, 1))[0], "core")
+        for w in ((1, (0, 1)), (1, (1, 0))):
+            self.assertIs(is_core_answer(f, family, (1, 2), (0, 1), ("core", w)), False)
+
+    def test_predictors_of_a_test_with_the_excess_0_can_have_sums(self):
+        truth, design, test = (1, 1, 1, 1), ((0, 1), (1, 0)), (0, 0, 0, 0)
+        self.assertEqual(bits_excess(truth, 2, design, test), (0, 1))
+        self.assertEqual(predictor_sum(truth, 2, design, test, (0, (), (0,), 0)), -4)
+
+    def test_advices_lead_back_to_strings_with_the_excess_0(self):
+        design, test = ((0, 1), (1, 0)), (0, 0, 0, 0)
+        self.assertEqual(string_excess(2, design, test, (0, 0)), (0, 1))
+        self.assertEqual(led_back(2, design, test, (1, 4), (0, (), (0,), 0, 0)), (0, 0))
 
 
 if __name__ == "__main__":

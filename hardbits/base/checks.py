@@ -1,14 +1,23 @@
 """Checks of parameters: each one raises its error, or does nothing."""
 
-from hardbits.base.kinds import is_between, is_design_below, is_family_on, is_fraction_between, is_measure_within
-from hardbits.base.kinds import is_mix, is_row_within, is_share, is_short, is_short_fraction, is_truth_within, is_word
+from hardbits.base.kinds import is_between, is_design_below, is_family_on, is_fraction_between, is_integer
+from hardbits.base.kinds import is_measure_within, is_mix, is_row_within, is_share, is_short, is_short_fraction
+from hardbits.base.kinds import is_truth_within, is_word
 from hardbits.errors import InvalidDesign, InvalidDraw, InvalidFamily, InvalidFraction, InvalidMeasure, InvalidMix
 from hardbits.errors import InvalidNumber, InvalidRow, InvalidTruth, InvalidWord
+
+_SMALL_PRIMES = (2, 3, 5, 7)
 
 
 def need_number(value, low, high):
     """Raises unless the value is an integer from low to high."""
     if not is_between(value, low, high):
+        raise InvalidNumber(value)
+
+
+def need_small_prime(value):
+    """Raises unless the value is 2, 3, 5 or 7."""
+    if not is_integer(value) or value not in _SMALL_PRIMES:
         raise InvalidNumber(value)
 
 

@@ -3,11 +3,11 @@
 from itertools import combinations
 from math import comb
 
-from hardbits.base.checks import need_draw, need_number
+from hardbits.base.checks import need_draw, need_number, need_small_prime
 from hardbits.base.codes import parity
 from hardbits.base.exact import lowest_row, reduced
-from hardbits.base.kinds import is_answer, is_index, is_indices, is_integer
-from hardbits.errors import InvalidMaps, InvalidNumber, TooMany
+from hardbits.base.kinds import is_answer, is_index, is_indices
+from hardbits.errors import InvalidMaps, TooMany
 
 _MOST_VALUES = 16
 _MOST_MAPS = 64
@@ -15,7 +15,6 @@ _LEAST_POINTS = 2
 _MOST_POINTS = 32
 _MOST_BITS = 5
 _MOST_BITS_OF_VALUES = 4
-_PRIMES = (2, 3, 5, 7)
 
 
 def _is_map(value, M):
@@ -197,6 +196,5 @@ def affine_maps(n, m):
 
 def field_maps(q):
     """All maps from x to a x + b modulo the prime q, ascending."""
-    if not is_integer(q) or q not in _PRIMES:
-        raise InvalidNumber(q)
+    need_small_prime(q)
     return tuple(sorted([tuple([(a * x + b) % q for x in range(q)]) for a in range(q) for b in range(q)]))

@@ -3,10 +3,10 @@
 from itertools import combinations
 from math import comb
 
-from hardbits.base.checks import need_design, need_number
+from hardbits.base.checks import need_design, need_number, need_small_prime
 from hardbits.base.exact import raised
-from hardbits.base.kinds import is_answer, is_design_below, is_indices, is_integer, is_lot, is_tuple_of
-from hardbits.errors import InvalidDesign, InvalidNumber, TooMany
+from hardbits.base.kinds import is_answer, is_design_below, is_indices, is_lot, is_tuple_of
+from hardbits.errors import InvalidDesign, TooMany
 
 MOST_PLACES = 12
 MOST_TUPLES = 6
@@ -14,7 +14,6 @@ MOST_TUPLES = 6
 _MOST_LOTS = 32
 _MOST_TRIED_LOTS = 20
 _MOST_ROOM = 999
-_PRIMES = (2, 3, 5, 7)
 
 
 def is_design(l, value):
@@ -70,8 +69,7 @@ def _values_at(q, n, a, number):
 
 def line_lots(q, n, a, m):
     """The tuples of the first m polynomials of a + 1 numbers modulo q."""
-    if not is_integer(q) or q not in _PRIMES:
-        raise InvalidNumber(q)
+    need_small_prime(q)
     need_number(n, 1, min(6, q))
     need_number(a, 0, n - 1)
     need_number(m, 1, min(MOST_TUPLES, raised(q, a + 1)))

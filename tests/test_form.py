@@ -351,6 +351,27 @@ class Form(unittest.TestCase):
                         self.assertNotIn(name, BARRED, path)
                         self.assertTrue(not name.startswith("__") or name in DOUBLE, (path, name))
 
+    def test_double_underscore_methods(self):
+        """[L5, L28] A length is that of something held; a text is a string that is made on the spot."""
+        for path, tree in self.trees():
+            for owner in ast.walk(tree):
+                if isinstance(owner, ast.ClassDef):
+                    for method in owner.body:
+                        if isinstance(method, ast.FunctionDef) and method.name in ("__len__", "__str__", "__repr__"):
+                            self.assertEqual(len(method.body), 1, path)
+                            value = method.body[0].value
+                            self.assertTrue(is_call_of(value, ("len",)) if method.name == "__len__" else isinstance(value, ast.JoinedStr), path)
+
+    def test_tables_of_functions_are_only_read(self):
+        """[L15] A dict or list at module level is read by an index or by `in`, and nothing else happens to it."""
+        for path, tree in self.trees():
+            tables = {node.targets[0].id for node in tree.body if isinstance(node, ast.Assign) and isinstance(node.value, (ast.Dict, ast.List))}
+            let = {id(node.value) for node in ast.walk(tree) if isinstance(node, ast.Subscript) and isinstance(node.ctx, ast.Load)}
+            let |= {id(side) for node in ast.walk(tree) if isinstance(node, ast.Compare) for side in node.comparators}
+            for node in ast.walk(tree):
+                if isinstance(node, ast.Name) and isinstance(node.ctx, ast.Load) and node.id in tables:
+                    self.assertIn(id(node), let, (path, node.lineno))
+
     def test_modules_bind_each_name_once(self):
         """[L15]"""
         for path, tree in self.trees():

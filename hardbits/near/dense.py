@@ -35,7 +35,7 @@ def need_little_signed_work(draw, family):
 
 def nearest(draw, family, d):
     """The nearness, a model for it, and a signed mix that shows that none is nearer, for right values."""
-    # Against a test plays the measure with which the opposite has the least sum.
+    # The measure's sum with a test's opposite, and the draw's with the test, come to how far the draw is ahead there.
     opposites = [tuple([-sign for sign in test]) for test in family]
     lines = opposites + list(family)
     offsets = [-dot(draw[1], line) for line in lines]

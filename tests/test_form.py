@@ -131,6 +131,23 @@ def is_call_of(node, names):
     return isinstance(node, ast.Call) and isinstance(node.func, ast.Name) and node.func.id in names
 
 
+def may_follow_a_star(value):
+    """[L7] A name, an attribute off a name, a literal, or a list, tuple or dict of these."""
+    if isinstance(value, (ast.List, ast.Tuple)):
+        return all(may_follow_a_star(part) for part in value.elts)
+    if isinstance(value, ast.Dict):
+        return all(may_follow_a_star(part) for part in value.keys + value.values)
+    if isinstance(value, ast.Attribute):
+        return isinstance(value.value, ast.Name)
+    return isinstance(value, (ast.Name, ast.Constant))
+
+
+def wrong_stars(tree):
+    """The rows of the calls in which a star stands before something else than a star may."""
+    return [node.lineno for node in ast.walk(tree) if isinstance(node, ast.Call)
+            and not all(may_follow_a_star(value.value) for value in node.args if isinstance(value, ast.Starred))]
+
+
 def path_of(module):
     return os.path.join(ROOT, *module.split(".")) + ".py"
 
@@ -326,7 +343,24 @@ class Form(unittest.TestCase):
                     self.assertIn(node, let, (path, node.lineno))
                 if isinstance(node, ast.Call) and any(isinstance(value, ast.Starred) for value in node.args):
                     self.assertTrue(is_call_of(node, ("max", "min", "zip")), (path, node.lineno))
+                if isinstance(node, ast.Call):
+                    self.assertTrue(all(keyword.arg for keyword in node.keywords), (path, node.lineno))
                 self.assertNotIsInstance(node, (ast.Yield, ast.YieldFrom, ast.Global, ast.Set, ast.SetComp, ast.Lambda), path)
+
+    def test_stars_in_calls(self):
+        """[L7] Behind a star in a call stand names, attributes off a name, literals, and lists, tuples and dicts of these."""
+        for path, tree in self.trees():
+            self.assertEqual(wrong_stars(tree), [], path)
+
+    def test_what_may_not_follow_a_star_is_found(self):
+        for text in ("zip(*table[1])", "zip(*rows[1:])", "zip(*table[0][1])", "zip(*table.rows[1])", "zip(*one.two.rows)",
+                     "zip(rows, *table[1])", "max(*rows[0], 1)", "min(*[rows[0], 1])", "zip(*(lines, table[1]))",
+                     "zip(*{0: rows[1]})", "zip(*one + other)", "zip(*made(rows))", "zip(*[row for row in rows])",
+                     "list(zip(*table[1]))", "made(one, list(zip(*table[1])), x)"):
+            self.assertEqual(wrong_stars(ast.parse("first = 0\nsecond = " + text)), [2], text)
+        for text in ("zip(*rows)", "zip(*table.rows)", "max(*rows, 1)", "zip(*(rows, lines))", "min(*[1, 2], *rows)",
+                     "zip(rows[0], table[1])", "zip(*(1, (rows, table.rows)))", "[*table[1], 1]", "zip(*{0: rows})"):
+            self.assertEqual(wrong_stars(ast.parse("first = 0\nsecond = " + text)), [], text)
 
     def test_exponents_and_sides(self):
         """[L27] An exponent is a literal, or there is none; [L20] `is` stands beside None, True and False."""

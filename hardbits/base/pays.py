@@ -30,7 +30,8 @@ def _pays(bottom, lines, mix):
 
 def row_pays(table, x):
     """The row of the pays of a mix of rows at all columns."""
-    return _pays(table[0], list(zip(*table[1])), x)
+    rows = table[1]
+    return _pays(table[0], list(zip(*rows)), x)
 
 
 def column_pays(table, y):
